@@ -1,9 +1,19 @@
 """What several test files need: values of many kinds, and ways through all pages."""
 
 import itertools
+import unittest
+from fractions import Fraction
+from statistics import median
 
 from ownmarks.crowds import Crowd
+from ownmarks.errors import BadRule
 from ownmarks.pages import Page
+from ownmarks.rules import Rule
+
+GATHERS = ["sum", "mean", "median", "trim", "least", "greatest"]
+TURNS = ["plain", "centred", "placed"]
+# Each gather with each number that goes with it.
+GATHERED = [(gather, trim) for gather in GATHERS for trim in ([1, 2, 3] if gather == "trim" else [0])]
 
 
 class Alike:
@@ -20,6 +30,16 @@ class Alike:
 ODD = [None, True, False, -1, 11, 2.0, 1j, "", "A", "zz", "ninesigns", b"a", [], ["a"], ["a", "b"], (), ("a",), ("a", "a"),
        ("a", "b", "c"), ("a", "zz"), ("zz", "a"), ("a", 1), (True, "a"), ("a", ["b"]), (["a"], "b"), [["a"]], {}, {"a": 1},
        {"a"}, frozenset(["a"]), object(), object, len, Alike(), ValueError("a"), range(2), 10 ** 50, float("nan"), "a ", "b\n"]
+
+
+class RefusingCase(unittest.TestCase):
+    """Tests of calls that raise an error of just this class, with just this value in its field."""
+
+    def refused(self, kind, field, value, call, *given, **named):
+        with self.assertRaises(kind) as caught:
+            call(*given, **named)
+        self.assertIs(type(caught.exception), kind)
+        self.assertIs(getattr(caught.exception, field), value)
 
 
 def odd_without(*kept):
@@ -56,3 +76,79 @@ def some_page(crowd, chance, missing):
         gone = missing and chance.randrange(missing) == 0
         marks[pair] = None if gone else chance.randrange(crowd.most + 1)
     return Page(crowd, marks)
+
+
+def some_lists(people, chance):
+    many = min(chance.choice([1, 1, 2, 3, len(people)]), len(people))
+    lists = [[] for _ in range(many)]
+    for person in people:
+        lists[chance.randrange(many)].append(person)
+    return [members for members in lists if members]
+
+
+def some_rule(crowd, chance, turn="plain", gathers=None):
+    """A rule by lot."""
+    while True:
+        gather, trim = chance.choice(gathers or (GATHERED if turn == "plain" else [("sum", 0), ("mean", 0)]))
+        many = chance.choice([2, 4, 5])
+        reads = [pair for pair in crowd.pairs() if chance.randrange(5) < many]
+        try:
+            return Rule(crowd, turn=turn, reads=reads, gather=gather, trim=trim, prizes=chance.randrange(4),
+                        lists=some_lists(crowd.people, chance))
+        except BadRule:
+            continue
+
+
+# The words of the document once more, as plainly as can be, with Python's own fractions.
+
+
+def plain_turned(turn, row):
+    """What the marks of a row, a dict with None for missing ones, turn to."""
+    given = [mark for mark in row.values() if mark is not None]
+    told = {}
+    for other, mark in row.items():
+        if mark is None:
+            told[other] = None
+        elif turn == "centred":
+            told[other] = mark - Fraction(sum(given), len(given))
+        elif turn == "placed":
+            told[other] = sum(one < mark for one in given) + Fraction(sum(one == mark for one in given) - 1, 2)
+        else:
+            told[other] = Fraction(mark)
+    return told
+
+
+def plain_gathered(gather, trim, said):
+    said = sorted(Fraction(mark) for mark in said)
+    if not said:
+        return Fraction(0)
+    if gather == "trim" and len(said) > 2 * trim:
+        said = said[trim:-trim]
+    ways = {"sum": sum, "median": median, "least": min, "greatest": max}
+    return Fraction(ways[gather](said)) if gather in ways else Fraction(sum(said), len(said))
+
+
+def plain_scores(rule, page):
+    rows = {person: plain_turned(rule.turn, page.row(person)) for person in rule.crowd}
+    told = {}
+    for person in rule.crowd:
+        said = [rows[marker][person] for marker, marked in rule.reads if marked == person]
+        said = [worth for worth in said if worth is not None]
+        told[person] = plain_gathered(rule.gather, rule.trim, said) if rule.readers(person) else None
+    return told
+
+
+def plain_ranks(rule, page):
+    found = plain_scores(rule, page)
+    told = {}
+    for members in rule.lists:
+        if len(members) == 1:
+            told[members[0]] = 1
+            continue
+        ordered = sorted(members, key=lambda person: (-found[person], rule.crowd.place(person)))
+        told.update({person: 1 + at for at, person in enumerate(ordered)})
+    return {person: told[person] for person in rule.crowd}
+
+
+def as_tuple(worth):
+    return None if worth is None else (worth.numerator, worth.denominator)

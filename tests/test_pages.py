@@ -5,7 +5,7 @@ import unittest
 from ownmarks.crowds import Crowd
 from ownmarks.errors import BadArgument, BadMark, BadPage, BadPair, NotThere
 from ownmarks.pages import Page
-from tests.helping import ODD, Alike, crowd_of, odd_without, page_of
+from tests.helping import ODD, Alike, RefusingCase, crowd_of, odd_without, page_of
 
 NO_MARKS = odd_without(None) + [3, "1", (1,), [0], 1.0]
 
@@ -111,7 +111,7 @@ class PageTest(unittest.TestCase):
         self.assertEqual(page.with_mark(("h", "a"), 0)["h", "a"], 0)
 
 
-class PageRefusedTest(unittest.TestCase):
+class PageRefusedTest(RefusingCase):
     def setUp(self):
         self.crowd = crowd_of(3, 2)
         self.page = page_of(self.crowd, [0, 1, 2, 0, 1, None])
@@ -119,12 +119,6 @@ class PageRefusedTest(unittest.TestCase):
 
     def tearDown(self):
         self.assertEqual(self.page.marks, self.before)
-
-    def refused(self, kind, field, value, call, *given, **named):
-        with self.assertRaises(kind) as caught:
-            call(*given, **named)
-        self.assertIs(type(caught.exception), kind)
-        self.assertIs(getattr(caught.exception, field), value)
 
     def test_crowd(self):
         for value in ODD + [self.page, ["a", "b"]]:
