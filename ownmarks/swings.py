@@ -45,10 +45,10 @@ def values(rule, person):
 
 def decides(rule, person, member, score):
     """Whether somebody's mark for a member by own reads decides at a score."""
-    # With own mark 0 and with the greatest one, the scores of the member are (s + low) / parts and
-    # (s + high) / parts, s being the sum of the other marks that are kept. Marks of the others can
-    # make low 0, high the greatest mark, and s any integer from 0 to where high / parts is the
-    # member's greatest score: so these spans leave no gap between nought and the greatest score.
+    # All kept marks of the member but one sum to some s, whatever the own mark is; the last one is
+    # low with own mark 0, and high with the greatest own mark. The other readers can make low 0, high the
+    # greatest mark, and s any integer from 0 on that the kept marks but one can sum to: so the spans from
+    # s + low to s + high leave no gap between nought and the greatest score, and none reaches beyond.
     many = kept_marks(rule, member)[1]
     greatest = lowest_terms(many * rule.crowd.most, parts_of_score(rule, many))
     if rule.crowd.place(person) < rule.crowd.place(member):
