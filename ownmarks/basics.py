@@ -28,6 +28,19 @@ def lowest_terms(top, bottom):
     return (top // part, bottom // part)
 
 
+def sum_of(fractions):
+    """The sum of a list of fractions."""
+    top, bottom = NOUGHT
+    for more_top, more_bottom in fractions:
+        top, bottom = top * more_bottom + more_top * bottom, bottom * more_bottom
+    return lowest_terms(top, bottom)
+
+
+def times(fraction, number):
+    """A fraction multiplied by an integer."""
+    return lowest_terms(fraction[0] * number, fraction[1])
+
+
 def is_fraction(value):
     """Whether any value is a fraction: a tuple (top, bottom) in lowest terms."""
     if not isinstance(value, tuple) or len(value) != 2:
@@ -37,6 +50,38 @@ def is_fraction(value):
     return value[1] >= 1 and gcd(value[0], value[1]) == 1
 
 
+def is_fraction_from_nought(value):
+    return is_fraction(value) and value[0] >= 0
+
+
 def is_less(one, other):
     """Whether one fraction is worth less than the other one."""
     return one[0] * other[1] < other[0] * one[1]
+
+
+def are_ascending(fractions):
+    """Whether a list of fractions is ascending by their worth, without doubles."""
+    return all([is_less(one, after) for one, after in zip(fractions, fractions[1:])])
+
+
+def are_in_order(people, value):
+    """Whether any value is a list of some of these people, in their order and without doubles."""
+    if not isinstance(value, list) or not all([isinstance(person, str) for person in value]):
+        return False
+    return value == [person for person in people if person in value]
+
+
+def power(base, many):
+    """The product of so many times the same integer."""
+    told = 1
+    for _ in range(many):
+        told = told * base
+    return told
+
+
+def all_tuples(most, many):
+    """The list of all tuples of so many integers from 0 to the most, ascending."""
+    told = [()]
+    for _ in range(many):
+        told = [row + (number,) for row in told for number in range(most + 1)]
+    return told

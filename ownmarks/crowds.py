@@ -67,3 +67,10 @@ def need_person(crowd, person):
     """Raise NotThere(person) for what is nobody of the crowd."""
     if person not in crowd:
         raise NotThere(person)
+
+
+def are_some_people(crowd, value):
+    """Whether any value is a list or tuple of unlike people of the crowd, perhaps none."""
+    if not isinstance(value, (list, tuple)) or not all([person in crowd for person in value]):
+        return False
+    return len(set(value)) == len(value)

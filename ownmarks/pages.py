@@ -92,3 +92,24 @@ def need_page(page, crowd):
     """Raise BadArgument(page) for what is no Page of this crowd."""
     if not isinstance(page, Page) or page.crowd != crowd:
         raise BadArgument(page)
+
+
+def is_full_page(crowd, value):
+    """Whether any value is a full Page of this crowd."""
+    return isinstance(value, Page) and value.crowd == crowd and value.is_full
+
+
+def need_full_page(page, crowd):
+    """Raise BadArgument(page) for what is no full Page of this crowd."""
+    if not is_full_page(crowd, page):
+        raise BadArgument(page)
+
+
+def is_row_change(crowd, person, value):
+    """Whether any value is a tuple of two full pages of the crowd, equal but for the row of somebody."""
+    if not isinstance(value, tuple) or len(value) != 2:
+        return False
+    page, other = value
+    if not is_full_page(crowd, page) or not is_full_page(crowd, other):
+        return False
+    return page.with_row(person, other.row(person)) == other

@@ -1,9 +1,9 @@
 """How far own marks can move the own rank, with plain rows."""
 
-from ownmarks.basics import NOUGHT, is_fraction, is_integer, is_less, lowest_terms
+from ownmarks.basics import NOUGHT, are_ascending, are_in_order, is_fraction, is_integer, is_less, lowest_terms
 from ownmarks.crowds import need_person
 from ownmarks.errors import BadNumber
-from ownmarks.pages import Page, need_page
+from ownmarks.pages import Page, is_row_change, need_page
 from ownmarks.rules import need_plain_rule, need_rule
 from ownmarks.scores import kept, ranks
 from ownmarks.web import own_reads
@@ -36,6 +36,12 @@ def possible_scores(rule, person):
     return [lowest_terms(total, parts) for total in range(many * rule.crowd.most + 1)]
 
 
+def greatest_score(rule, person):
+    """The greatest score that somebody with readers can have on full pages."""
+    many = kept_marks(rule, person)[1]
+    return lowest_terms(many * rule.crowd.most, parts_of_score(rule, many))
+
+
 def values(rule, person):
     """The list of all scores that somebody can have on full pages."""
     need_plain_rule(rule)
@@ -49,8 +55,7 @@ def decides(rule, person, member, score):
     # low with own mark 0, and high with the greatest own mark. The other readers can make low 0, high the
     # greatest mark, and s any integer from 0 on that the kept marks but one can sum to: so the spans from
     # s + low to s + high leave no gap between nought and the greatest score, and none reaches beyond.
-    many = kept_marks(rule, member)[1]
-    greatest = lowest_terms(many * rule.crowd.most, parts_of_score(rule, many))
+    greatest = greatest_score(rule, member)
     if rule.crowd.place(person) < rule.crowd.place(member):
         return not is_less(score, NOUGHT) and is_less(score, greatest)
     return is_less(NOUGHT, score) and not is_less(greatest, score)
@@ -145,22 +150,14 @@ def lift_pages(rule, person):
     return (low, high)
 
 
-def is_full_page(crowd, value):
-    return isinstance(value, Page) and value.crowd == crowd and value.is_full
-
-
 def is_moved(rule, person, places, value):
     """Whether any value is a tuple of two full pages by which somebody's own row moves it so many places."""
     need_rule(rule)
     need_person(rule.crowd, person)
     need_places(places)
-    if not isinstance(value, tuple) or len(value) != 2:
+    if not is_row_change(rule.crowd, person, value):
         return False
     page, other = value
-    if not is_full_page(rule.crowd, page) or not is_full_page(rule.crowd, other):
-        return False
-    if page.with_row(person, other.row(person)) != other:
-        return False
     return abs(ranks(rule, page)[person] - ranks(rule, other)[person]) == places
 
 
@@ -181,15 +178,13 @@ def lift_paper(rule, person):
     return [(score, decided_members(rule, person, score)) for score in possible_scores(rule, person)]
 
 
-def is_paper(value):
-    """Whether any value is a list of tuples (fraction, list of texts), the fractions ascending without doubles."""
+def is_paper(members, value):
+    """Whether any value is a list of tuples (fraction, some of the members), the fractions ascending."""
     if not isinstance(value, list) or not all([isinstance(row, tuple) and len(row) == 2 for row in value]):
         return False
-    if not all([is_fraction(row[0]) and isinstance(row[1], list) for row in value]):
+    if not all([is_fraction(score) and are_in_order(members, people) for score, people in value]):
         return False
-    if not all([isinstance(person, str) for row in value for person in row[1]]):
-        return False
-    return all([is_less(row[0], after[0]) for row, after in zip(value, value[1:])])
+    return are_ascending([score for score, _ in value])
 
 
 def bounds_lift(rule, person, places, paper):
@@ -197,14 +192,10 @@ def bounds_lift(rule, person, places, paper):
     need_plain_rule(rule)
     need_person(rule.crowd, person)
     need_places(places)
-    if not is_paper(paper):
+    if not is_paper(members_by_own_reads(rule, person), paper):
         return False
-    members = members_by_own_reads(rule, person)
-    for _, people in paper:
-        if len(people) > places or people != [member for member in members if member in people]:
-            return False
     told = {score: people for score, people in paper}
     found = possible_scores(rule, person)
-    if not all([score in told for score in found]):
+    if any([len(people) > places for people in told.values()]) or not all([score in told for score in found]):
         return False
     return all([member in told[score] for score in found for member in decided_members(rule, person, score)])

@@ -1,6 +1,8 @@
 """What several test files need: values of many kinds, and ways through all pages."""
 
+import functools
 import itertools
+import random
 import unittest
 from fractions import Fraction
 from statistics import median
@@ -9,6 +11,7 @@ from ownmarks.crowds import Crowd
 from ownmarks.errors import BadRule
 from ownmarks.pages import Page
 from ownmarks.rules import Rule
+from ownmarks.web import own_reads
 
 GATHERS = ["sum", "mean", "median", "trim", "least", "greatest"]
 TURNS = ["plain", "centred", "placed"]
@@ -152,3 +155,75 @@ def plain_ranks(rule, page):
 
 def as_tuple(worth):
     return None if worth is None else (worth.numerator, worth.denominator)
+
+
+def multisets(most, many):
+    return itertools.combinations_with_replacement(range(most + 1), many)
+
+
+@functools.lru_cache(None)
+def plain_worths(gather, trim, most, readers):
+    """All scores of somebody with so many readers, by all marks of these."""
+    return sorted({plain_gathered(gather, trim, marks) for marks in multisets(most, readers)})
+
+
+@functools.lru_cache(None)
+def plain_spans(gather, trim, most, readers):
+    """All tuples (low, high) of somebody with so many readers, by all marks of the other ones."""
+    return {(plain_gathered(gather, trim, (0,) + marks), plain_gathered(gather, trim, marks + (most,)))
+            for marks in multisets(most, readers - 1)}
+
+
+def plain_values(rule, person):
+    readers = len(rule.readers(person))
+    return plain_worths(rule.gather, rule.trim, rule.crowd.most, readers) if readers else []
+
+
+@functools.lru_cache(None)
+def plain_decides(gather, trim, most, readers, earlier, worth):
+    spans = plain_spans(gather, trim, most, readers)
+    return any(low <= worth < high if earlier else low < worth <= high for low, high in spans)
+
+
+def plain_decided(rule, person, worth):
+    told = []
+    for _, member in own_reads(rule, person):
+        earlier = rule.crowd.place(person) < rule.crowd.place(member)
+        if plain_decides(rule.gather, rule.trim, rule.crowd.most, len(rule.readers(member)), earlier, worth):
+            told.append(member)
+    return told
+
+
+def plain_lift(rule, person):
+    """The lift by the words of promise 9, mark by mark."""
+    return max([len(plain_decided(rule, person, worth)) for worth in plain_values(rule, person)], default=0)
+
+
+def tried_lifts(rule):
+    """The lifts by going through all full pages."""
+    spans = {}
+    for page in all_pages(rule.crowd):
+        for person, rank in plain_ranks(rule, page).items():
+            others = tuple(mark for pair, mark in page.marks.items() if pair[0] != person)
+            low, high = spans.get((person, others), (rank, rank))
+            spans[person, others] = (min(low, rank), max(high, rank))
+    told = {person: 0 for person in rule.crowd}
+    for (person, _), (low, high) in spans.items():
+        told[person] = max(told[person], high - low)
+    return told
+
+
+def great_rules():
+    """Rules of eight people with the greatest mark 10: of each gather all in one list, and some by lot."""
+    crowd = crowd_of(8, 10)
+    chance = random.Random(10)
+    for gather, trim in GATHERED:
+        yield Rule(crowd, gather=gather, trim=trim)
+        yield some_rule(crowd, chance, gathers=[(gather, trim)])
+        yield some_rule(crowd, chance, gathers=[(gather, trim)])
+
+
+def small_rules(many, seed):
+    chance = random.Random(seed)
+    for _ in range(many):
+        yield some_rule(crowd_of(chance.randint(1, 5), chance.randint(1, 3)), chance)

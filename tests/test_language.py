@@ -13,19 +13,25 @@ BUILTINS = set("""len range enumerate zip min max sum abs sorted reversed int st
     ord repr any all divmod iter next ValueError TypeError KeyError IndexError LookupError OverflowError""".split())
 METHODS = set("""append clear copy count endswith extend find get index insert isalnum isalpha isdigit items join keys
     lower pop remove replace reverse setdefault split splitlines startswith strip update values""".split())
-DOUBLE = set("""__init__ __eq__ __len__ __call__ __iter__ __contains__ __getitem__ __or__ __and__""".split())
+DOUBLE = set("""__init__ __eq__ __len__ __call__ __iter__ __contains__ __getitem__ __or__ __and__
+    __setitem__ __enter__ __exit__""".split())
 NODES = set("""Module Expr Constant ImportFrom alias FunctionDef ClassDef arguments arg Return Assign Name Load Store Call
     keyword Attribute Subscript Slice Tuple List Dict If IfExp For While Raise BoolOp And Or UnaryOp Not USub BinOp Add
     Sub Mult FloorDiv Mod Compare Eq NotEq Lt LtE Gt GtE In NotIn Is IsNot ListComp DictComp comprehension Lambda Yield
-    Pass Break Continue AugAssign""".split())
+    Pass Break Continue AugAssign SetComp Starred
+    Try ExceptHandler""".split())
 BARRED = set("""register mro elements open input law type typing enum Enum Flag Generic Protocol ABC dataclass overload
     attrgetter compile dir eval exec exit gc getattr globals hasattr help id importlib locals os quit setattr super sys
     vars map format args""".split())
 
 
 def package_files():
-    names = sorted(name for name in os.listdir(FOLDER) if name != "__pycache__")
-    return [(name, open(os.path.join(FOLDER, name), "rb").read()) for name in names]
+    found = []
+    for name in sorted(os.listdir(FOLDER)):
+        if name != "__pycache__":
+            with open(os.path.join(FOLDER, name), "rb") as file:
+                found.append((name, file.read()))
+    return found
 
 
 def own_names(trees):
@@ -131,6 +137,12 @@ class LanguageTest(unittest.TestCase):
             for decorator in node.decorator_list:
                 self.assertIn(getattr(decorator, "id", ""), ("property", "staticmethod"), where)
 
+    def test_only_own_errors_are_caught(self):
+        for where, node in self.nodes(ast.Try):
+            self.assertEqual((node.orelse, node.finalbody, len(node.body)), ([], [], 1), where)
+            for handler in node.handlers:
+                self.assertIn(handler.type.id, self.own, where)
+
     def test_is(self):
         for where, node in self.nodes(ast.Compare):
             for sign, right in zip(node.ops, node.comparators):
@@ -144,6 +156,16 @@ class LanguageTest(unittest.TestCase):
             if isinstance(value, ast.Call):
                 called = getattr(value.func, "id", None) or getattr(value.func, "attr", None)
                 self.assertNotIn(called, ("zip", "enumerate", "reversed", "items", "values", "keys"), where)
+
+    def test_sets_stand_where_they_are_measured(self):
+        def is_set(node):
+            return isinstance(node, ast.SetComp) or isinstance(node, ast.Call) and getattr(node.func, "id", "") == "set"
+
+        measured = [part for _, node in self.nodes(ast.Call) if getattr(node.func, "id", "") in ("len", "sorted")
+                    for part in node.args]
+        for where, node in self.nodes():
+            if is_set(node):
+                self.assertIn(node, measured, where)
 
     def test_constants(self):
         for where, node in self.nodes(ast.Constant):

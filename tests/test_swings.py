@@ -1,6 +1,5 @@
 """Promises 1 (a), 1 (b), 9 and 10: how far own marks can move a rank, and lift papers."""
 
-import functools
 import itertools
 import random
 import unittest
@@ -13,66 +12,10 @@ from ownmarks.rules import Rule
 from ownmarks.scores import Ranker
 from ownmarks.swings import (bounds_lift, decided, is_moved, lift, lift_pages, lift_paper, lifts, reach, values)
 from ownmarks.web import is_safe, own_reads, safe_people
-from tests.helping import (GATHERED, ODD, Alike, RefusingCase, all_pages, all_rows, as_tuple, crowd_of, odd_without, plain_gathered,
-                           plain_ranks, some_page, some_rule)
+from tests.helping import (GATHERED, ODD, Alike, RefusingCase, all_rows, as_tuple, crowd_of, great_rules, odd_without, plain_decided,
+                           plain_gathered, plain_lift, plain_ranks, plain_values, small_rules, some_page, some_rule, tried_lifts)
 
 NO_PLACES = odd_without(11, 10 ** 50) + [-1, -10 ** 30, "1", (1,), 1.0, 0.0]
-
-
-def multisets(most, many):
-    return itertools.combinations_with_replacement(range(most + 1), many)
-
-
-@functools.lru_cache(None)
-def plain_worths(gather, trim, most, readers):
-    """All scores of somebody with so many readers, by all marks of these."""
-    return sorted({plain_gathered(gather, trim, marks) for marks in multisets(most, readers)})
-
-
-@functools.lru_cache(None)
-def plain_spans(gather, trim, most, readers):
-    """All tuples (low, high) of somebody with so many readers, by all marks of the other ones."""
-    return {(plain_gathered(gather, trim, (0,) + marks), plain_gathered(gather, trim, marks + (most,)))
-            for marks in multisets(most, readers - 1)}
-
-
-def plain_values(rule, person):
-    readers = len(rule.readers(person))
-    return plain_worths(rule.gather, rule.trim, rule.crowd.most, readers) if readers else []
-
-
-@functools.lru_cache(None)
-def plain_decides(gather, trim, most, readers, earlier, worth):
-    spans = plain_spans(gather, trim, most, readers)
-    return any(low <= worth < high if earlier else low < worth <= high for low, high in spans)
-
-
-def plain_decided(rule, person, worth):
-    told = []
-    for _, member in own_reads(rule, person):
-        earlier = rule.crowd.place(person) < rule.crowd.place(member)
-        if plain_decides(rule.gather, rule.trim, rule.crowd.most, len(rule.readers(member)), earlier, worth):
-            told.append(member)
-    return told
-
-
-def plain_lift(rule, person):
-    """The lift by the words of promise 9, mark by mark."""
-    return max([len(plain_decided(rule, person, worth)) for worth in plain_values(rule, person)], default=0)
-
-
-def tried_lifts(rule):
-    """The lifts by going through all full pages."""
-    spans = {}
-    for page in all_pages(rule.crowd):
-        for person, rank in plain_ranks(rule, page).items():
-            others = tuple(mark for pair, mark in page.marks.items() if pair[0] != person)
-            low, high = spans.get((person, others), (rank, rank))
-            spans[person, others] = (min(low, rank), max(high, rank))
-    told = {person: 0 for person in rule.crowd}
-    for (person, _), (low, high) in spans.items():
-        told[person] = max(told[person], high - low)
-    return told
 
 
 def is_right_paper(rule, person, places, paper):
@@ -88,22 +31,6 @@ def is_right_paper(rule, person, places, paper):
         if worth in plain_values(rule, person) and not set(plain_decided(rule, person, worth)) <= set(people):
             return False
     return True
-
-
-def great_rules():
-    """Rules of eight people with the greatest mark 10: of each gather all in one list, and some by lot."""
-    crowd = crowd_of(8, 10)
-    chance = random.Random(10)
-    for gather, trim in GATHERED:
-        yield Rule(crowd, gather=gather, trim=trim)
-        yield some_rule(crowd, chance, gathers=[(gather, trim)])
-        yield some_rule(crowd, chance, gathers=[(gather, trim)])
-
-
-def small_rules(many, seed):
-    chance = random.Random(seed)
-    for _ in range(many):
-        yield some_rule(crowd_of(chance.randint(1, 5), chance.randint(1, 3)), chance)
 
 
 class ValuesTest(unittest.TestCase):
