@@ -152,19 +152,18 @@ def marks_for_sum(rule, person, marks, total):
     return told
 
 
-def marks_in_order(rule, order, marks):
-    """A dict of the marks for the people of a list by which they rank in this order, or None."""
+def sums_in_order(rule, order, marks):
+    """A dict from the people of a list to the sums of kept marks by which they rank in this order, or None."""
     if len(order) == 1:
         return {}
-    members = rule.list_of(order[0])
-    spans = standing_spans(rule, members, marks)
-    places = standings_in_order(spans, order)
-    if places is None:
+    spans = standing_spans(rule, rule.list_of(order[0]), marks)
+    found = standings_in_order(spans, order)
+    if found is None:
         return None
     told = {}
-    for person, standing in places.items():
+    for person, standing in found.items():
         _, _, step, start = spans[person]
-        told.update(marks_for_sum(rule, person, marks, (standing - start) // step))
+        told[person] = (standing - start) // step
     return told
 
 
@@ -177,10 +176,11 @@ def page_for(rule, ranks, marks):
     for members in rule.lists:
         if members[0] in ranks:
             order = [member for rank in range(1, len(members) + 1) for member in members if ranks[member] == rank]
-            found = marks_in_order(rule, order, marks)
-            if found is None:
+            sums = sums_in_order(rule, order, marks)
+            if sums is None:
                 return None
-            told.update(found)
+            for person, total in sums.items():
+                told.update(marks_for_sum(rule, person, marks, total))
     return Page(rule.crowd, told)
 
 

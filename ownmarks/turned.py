@@ -106,7 +106,7 @@ def widest(rule, person):
     best = (-1, [], {}, {})
     for sums, others in others_by_sums(rule, person).items():
         told = rows_by_ranks(place, sums, own_rows)
-        low, high = min(told), max(told)
+        low, high = min(list(told)), max(list(told))
         if high - low > best[0]:
             best = (high - low, others, told[low], told[high])
     return best
