@@ -91,7 +91,7 @@ def orders(people):
 def last_to_lead(order, marks):
     """Who gets the prize if the people come in this order: the one that leads at last."""
     # Whoever comes leads if those ahead of it but the leader give it as much as the leader was given by those
-    # ahead of the leader. So somebody's own marks count only when it can neither lead any more nor lose the lead.
+    # ahead of the leader. So somebody's own marks are counted only when it has come and does not lead: too late.
     leader, score = order[0], 0
     for at in range(1, len(order)):
         comer, ahead = order[at], order[:at]
