@@ -1,6 +1,18 @@
 """A prize by lot in which own marks never count, for two or three people with marks 0 and 1."""
 
-from ownmarks.basics import NOUGHT, all_tuples, is_fraction_from_nought, is_less, lowest_terms, sum_of, times
+from math import lcm
+
+from ownmarks.basics import (
+    NOUGHT,
+    all_tuples,
+    is_fraction_from_nought,
+    is_integer,
+    is_less,
+    lowest_terms,
+    power,
+    sum_of,
+    times,
+)
 from ownmarks.crowds import Crowd, need_person
 from ownmarks.errors import BadArgument
 from ownmarks.pages import is_mark
@@ -128,38 +140,76 @@ def share_paper(crowd):
     return [(by_other, NOUGHT, HALF), (by_one, NOUGHT, HALF), (by_both, HALF, NOUGHT)]
 
 
-def is_lot_key(crowd, value):
-    """Whether any value is a tuple (person, view)."""
-    if not isinstance(value, tuple) or len(value) != 2 or value[0] not in crowd:
+def are_lot_keys(people, seeing, keys):
+    """Whether all values of a list are tuples (person, view)."""
+    if not all([isinstance(key, tuple) and len(key) == 2 for key in keys]):
         return False
-    return are_some_marks(crowd, len(pairs_in_view(crowd, value[0])), value[1])
+    if not all([isinstance(person, str) and isinstance(view, tuple) for person, view in keys]):
+        return False
+    # For Python, True and 1 are one key: of what kind the marks are is looked at ahead of what they are worth.
+    if not all([is_integer(mark) for _, view in keys for mark in view]):
+        return False
+    known = {view: True for view in seeing}
+    return all([person in people and view in known for person, view in keys])
 
 
-def are_chances(crowd, value):
+def are_chances(people, seeing, value):
     """Whether any value is a dict from all tuples (person, view) to fractions from 0 on."""
-    if not isinstance(value, dict):
+    if not isinstance(value, dict) or len(value) != len(people) * len(seeing):
         return False
-    if not all([is_lot_key(crowd, key) and is_fraction_from_nought(chance) for key, chance in value.items()]):
+    if not all([is_fraction_from_nought(chance) for chance in value.values()]):
         return False
-    return len(value) == sum([len(views(crowd, person)) for person in crowd.people])
+    return are_lot_keys(people, seeing, list(value))
 
 
-def is_shared_out(crowd, chances, marks, share):
-    """Whether on one page the chances are at most 1 together, and enough for the share."""
-    found = {person: chances[person, seen(crowd, person, marks)] for person in crowd.people}
-    if is_less(ONE, sum_of(list(found.values()))):
+def tops_over_common_bottom(chances):
+    """The tuple (tops, bottom) of a dict of fractions: a dict of integers, and by what they are divided."""
+    common = 1
+    for _, bottom in chances.values():
+        common = lcm(common, bottom)
+    return ({key: top * (common // bottom) for key, (top, bottom) in chances.items()}, common)
+
+
+def by_pages(crowd, place, told):
+    """The list, by pages, of what the person at a place has by its views, told as a list by views."""
+    # Pages go by the rows of the earlier people, then by the own row, which no view has, then by the later rows.
+    rows = power(crowd.most + 1, len(crowd) - 1)
+    later = len(told) // power(rows, place)
+    return [worth for at in range(0, len(told), later) for worth in told[at:at + later] * rows]
+
+
+def sums_by_views(crowd, person, seeing):
+    """The list, by views, of the sums of the marks for somebody."""
+    spots = [at for at, pair in enumerate(pairs_in_view(crowd, person)) if pair[1] == person]
+    return [sum([view[at] for at in spots]) for view in seeing]
+
+
+def sums_by_pages(crowd, told):
+    """The list, by pages, of the sums over all people of what each one has by its views."""
+    columns = [by_pages(crowd, place, row) for place, row in enumerate(told)]
+    return [sum(row) for row in zip(*columns)]
+
+
+def is_shared_out(crowd, seeing, chances, share):
+    """Whether on each page the chances are at most 1 together, and enough for the share."""
+    tops, whole = tops_over_common_bottom(chances)
+    parts = [[tops[person, view] for view in seeing] for person in crowd.people]
+    if any([together > whole for together in sums_by_pages(crowd, parts)]):
         return False
-    worth = sum_of([times(found[person], many) for person, many in sums_by_person(crowd, marks).items()])
-    return not is_less(worth, times(share, greatest_sum(crowd, marks)))
+    sums = [sums_by_views(crowd, person, seeing) for person in crowd.people]
+    worths = [[top * many for top, many in zip(row, marks)] for row, marks in zip(parts, sums)]
+    columns = [by_pages(crowd, place, row) for place, row in enumerate(sums)]
+    asked = [max(row) * share[0] * whole for row in zip(*columns)]
+    return all([worth * share[1] >= least for worth, least in zip(sums_by_pages(crowd, worths), asked)])
 
 
 def is_lot(crowd, value, share):
     """Whether any value is a lot whose share is at least this one."""
     need_lot_crowd(crowd)
     need_share(share)
-    if not are_chances(crowd, value):
-        return False
-    return all([is_shared_out(crowd, value, marks, share) for marks in page_tuples(crowd)])
+    # All see as many marks, so that all have the same views.
+    seeing = views(crowd, crowd.people[0])
+    return are_chances(crowd.people, seeing, value) and is_shared_out(crowd, seeing, value, share)
 
 
 def is_share_row(crowd, value):

@@ -7,17 +7,15 @@ from ownmarks.pages import need_page
 from ownmarks.rules import need_rule
 
 
-def turned_mark(turn, given, mark):
-    """The fraction that a mark turns to in a row in which these marks are given."""
-    if mark is None:
-        return None
+def turned_tops(turn, given):
+    """What the marks given in a row turn to: the list of their tops, and the bottom of them all."""
     if turn == "centred":
-        return lowest_terms(mark * len(given) - sum(given), len(given))
+        total = sum(given)
+        return ([mark * len(given) - total for mark in given], len(given))
     if turn == "placed":
-        lower = len([one for one in given if one < mark])
-        others_equal = given.count(mark) - 1
-        return lowest_terms(2 * lower + others_equal, 2)
-    return (mark, 1)
+        # Twice the lower ones, and once the other ones that are equal.
+        return ([2 * len([one for one in given if one < mark]) + given.count(mark) - 1 for mark in given], 2)
+    return (list(given), 1)
 
 
 def turned_row(rule, page, person):
@@ -25,8 +23,10 @@ def turned_row(rule, page, person):
     need_rule(rule)
     need_page(page, rule.crowd)
     row = page.row(person)
-    given = [mark for mark in row.values() if mark is not None]
-    return {other: turned_mark(rule.turn, given, mark) for other, mark in row.items()}
+    given = {other: mark for other, mark in row.items() if mark is not None}
+    tops, bottom = turned_tops(rule.turn, list(given.values()))
+    turned = {other: lowest_terms(top, bottom) for other, top in zip(given, tops)}
+    return {other: turned.get(other, None) for other in row}
 
 
 def kept(gather, trim, many):

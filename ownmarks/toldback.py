@@ -80,7 +80,7 @@ def standing_spans(rule, members, marks):
     for member in members:
         common = lcm(common, parts[member])
     told = {}
-    for start, member in enumerate(reversed(members)):
+    for start, member in enumerate(reversed(list(members))):
         least, greatest = sums_that_are_open(rule, member, marks)
         told[member] = (least, greatest, common // parts[member] * len(members), start)
     return told

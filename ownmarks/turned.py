@@ -5,13 +5,14 @@ from ownmarks.crowds import need_person
 from ownmarks.errors import BadArgument, TooMany
 from ownmarks.pages import Page, need_full_page
 from ownmarks.rules import GATHERS_OF_TURNED_ROWS, need_rule
-from ownmarks.scores import ranks, turned_mark
+from ownmarks.scores import ranks, turned_tops
 
 MOST_TRIED_PEOPLE = 4
 MOST_TRIED_ROWS = 64
-# In a small crowd a row has at most three marks and somebody at most three readers, so that what a mark turns to,
-# and that divided by the number of readers, are integers if multiplied by this.
-SCALE = 36
+# In a small crowd somebody has at most three readers: this can be divided by the number of readers.
+SCALE = 6
+# What trying tells where own rows move nothing.
+NOTHING_MOVES = (0, (), (), ())
 
 
 def need_gather_of_turned_rows(rule):
@@ -33,89 +34,169 @@ def need_small_rule(rule, person):
     need_small(rule.crowd)
 
 
+def others_than(people, person):
+    return [other for other in people if other != person]
+
+
 def all_rows(crowd, person):
     """The list of all rows that somebody can give, each a dict from the others to marks."""
-    others = [other for other in crowd.people if other != person]
+    others = others_than(crowd.people, person)
     return [{other: mark for other, mark in zip(others, marks)} for marks in all_tuples(crowd.most, len(others))]
 
 
-def members_with_readers(rule, person):
-    return [member for member in rule.list_of(person) if len(rule.readers(member)) > 0]
-
-
-def part_of_score(rule, marker, row, member):
-    """What the row of a marker adds to the score of a member, multiplied by SCALE."""
-    readers = rule.readers(member)
-    if marker not in readers:
-        return 0
-    top, bottom = turned_mark(rule.turn, list(row.values()), row[member])
-    return top * SCALE // (bottom * (len(readers) if rule.gather == "mean" else 1))
-
-
-def rows_by_parts(rule, members, marker):
-    """A dict from what the rows of a marker can add to the scores of the members, to a row that adds it."""
+def turned_rows(rule):
+    """A dict from the tops of all that rows of a person can turn to, tuples, to marks that turn to them."""
+    # All rows without missing marks have the same bottom, so that the tops alone tell which scores are greater.
     told = {}
-    for row in all_rows(rule.crowd, marker):
-        told.setdefault(tuple([part_of_score(rule, marker, row, member) for member in members]), row)
+    for marks in all_tuples(rule.crowd.most, len(rule.crowd) - 1):
+        told.setdefault(tuple(turned_tops(rule.turn, marks)[0]), marks)
     return told
 
 
-def added(one, other):
-    return tuple([part + more for part, more in zip(one, other)])
+def readers_by_member(rule, person):
+    """A dict from the members of somebody's list to their readers."""
+    return {member: rule.readers(member) for member in rule.list_of(person)}
 
 
-def with_rows_of(marker, found, rows):
-    """A dict from what the rows of some people and those of a marker make together, to rows that make it."""
+def part_of_score(rule, readers):
+    """By what a top is multiplied in the score of somebody with these readers."""
+    return SCALE // len(readers) if rule.gather == "mean" else 1
+
+
+def greatest_total(rule):
+    """How far from nought a score can be at most."""
+    # Placed marks have tops of twice the number of the other marks of the row at most, others of the greatest mark
+    # times the number of marks of the row.
+    others = len(rule.crowd) - 1
+    return max(rule.crowd.most, 2) * others * (SCALE if rule.gather == "mean" else others)
+
+
+def rows_by_parts(people, rows, marker, readers, weights):
+    """A dict from what the rows of a marker add to a total, by weights of the marked ones, to marks that add it."""
+    marked = others_than(people, marker)
+    own = [weights[other] if other in weights and marker in readers[other] else 0 for other in marked]
     told = {}
-    for sums, before in found.items():
-        for parts, row in rows.items():
-            told.setdefault(added(sums, parts), [*before, (marker, row)])
+    for turned, marks in rows.items():
+        told.setdefault(sum([weight * top for weight, top in zip(own, turned)]), marks)
     return told
 
 
-def others_by_sums(rule, person):
-    """A dict from the sums of somebody, multiplied by SCALE, to rows of all others that make each."""
-    members = members_with_readers(rule, person)
-    found = {tuple([0] * len(members)): []}
-    for marker in rule.crowd.people:
-        if marker != person:
-            found = with_rows_of(marker, found, rows_by_parts(rule, members, marker))
-    return found
+def totals_by_stages(start, parts):
+    """A list of dicts with totals as keys: the start alone, then with the rows of one marker more each time."""
+    stages = [{start: True}]
+    for rows in parts:
+        ahead = stages[-1]
+        stages.append({total + part: True for total in ahead for part in rows})
+    return stages
 
 
-def rank_by(place, totals):
-    """The rank of the member at this place, by the scores of all members."""
-    own = totals[place]
-    earlier_ahead = [one for one in totals[:place] if one >= own]
-    later_ahead = [one for one in totals[place + 1:] if one > own]
-    return 1 + len(earlier_ahead) + len(later_ahead)
+def rows_that_make(total, parts, stages):
+    """The list of the marks of rows, marker by marker, that make a total of the last stage."""
+    told = []
+    for rows, ahead in reversed(list(zip(parts, stages))):
+        before = [one for one in ahead if total - one in rows][0]
+        told = [rows[total - before], *told]
+        total = before
+    return told
 
 
-def rows_by_ranks(place, sums, rows):
-    """A dict from the ranks that somebody can have with these sums, to an own row that gives it each."""
-    return {rank_by(place, added(sums, parts)): rows[parts] for parts in rows}
+def count_sums(rule, person):
+    """How many unlike sums somebody has."""
+    need_small_rule(rule, person)
+    readers = {member: told for member, told in readers_by_member(rule, person).items() if len(told) > 0}
+    # A total is one integer that holds all sums: the digit of each is so great that no sum reaches the next one.
+    base = 2 * greatest_total(rule) + 1
+    weights = {}
+    for place, member in enumerate(readers):
+        weights[member] = part_of_score(rule, readers[member]) * power(base, place)
+    people, rows = rule.crowd.people, turned_rows(rule)
+    parts = [rows_by_parts(people, rows, marker, readers, weights) for marker in people if marker != person]
+    return len(totals_by_stages(0, parts)[-1])
 
 
-def widest(rule, person):
-    """How many places apart the own ranks are at most: (places, rows of the others, best own row, worst own row)."""
-    members = members_with_readers(rule, person)
-    if len(members) < 2:
-        return (0, [], {}, {})
-    place = members.index(person)
-    own_rows = rows_by_parts(rule, members, person)
-    best = (-1, [], {}, {})
-    for sums, others in others_by_sums(rule, person).items():
-        told = rows_by_ranks(place, sums, own_rows)
-        low, high = min(list(told)), max(list(told))
-        if high - low > best[0]:
-            best = (high - low, others, told[low], told[high])
+def own_rows_by_parts(rule, rows, person, readers, rivals):
+    """A dict from what own rows add to the scores of the rivals, a tuple, to marks that add it."""
+    others = others_than(rule.crowd.people, person)
+    aims = [(others.index(rival), part_of_score(rule, readers[rival])) for rival in rivals]
+    told = {}
+    for turned, marks in rows.items():
+        told.setdefault(tuple([part * turned[spot] for spot, part in aims]), marks)
+    return told
+
+
+def rows_by_leads(parts, half):
+    """By a lead with half of a digit added, the own rows, as bits, that put the rival ahead: each row adds its part."""
+    told = []
+    rows = (1 << len(parts)) - 1
+    for part, row in sorted([(worth, 1 << at) for at, worth in enumerate(parts)]):
+        told += [rows] * (part + half - len(told))
+        rows -= row
+    return told + [0] * (2 * half - len(told))
+
+
+def rows_by_rivals_ahead(rows, told):
+    """The tuple of the own rows, as bits, that put no rival or more ahead, one or more, two or more, and all three."""
+    # Who has fewer than three rivals has others besides that are never ahead.
+    one, two, three = [*told, 0, 0, 0][:3]
+    return (rows, one | two | three, one & two | one & three | two & three, one & two & three)
+
+
+def places_apart(levels):
+    """How many places apart own rows put somebody, by the rows by rivals ahead."""
+    return len(levels) - levels.count(0) - levels.count(levels[0])
+
+
+def widest(own, digits, half, standings):
+    """How many places apart own rows put somebody at most: (places, standing, rows by rivals ahead)."""
+    leads = [(digit, rows_by_leads([parts[at] for parts in own], half)) for at, digit in enumerate(digits)]
+    rows = (1 << len(own)) - 1
+    best = (0, 0, (rows,))
+    seen = {}
+    for standing in standings:
+        told = tuple([by_lead[standing // digit % (2 * half)] for digit, by_lead in leads])
+        if told not in seen:
+            seen[told] = True
+            levels = rows_by_rivals_ahead(rows, told)
+            places = places_apart(levels)
+            if places > best[0]:
+                best = (places, standing, levels)
+            if places == len(digits):
+                return best
     return best
+
+
+def tried(rule, person):
+    """What own rows can do: (places, rows by rivals ahead, marks of own rows, marks of the rows of the others)."""
+    readers = readers_by_member(rule, person)
+    # Own rows move somebody past those alone whom it marks by own reads: the rivals.
+    rivals = [member for member in readers if person in readers[member]]
+    if len(rivals) == 0:
+        return NOTHING_MOVES
+    rows = turned_rows(rule)
+    own = own_rows_by_parts(rule, rows, person, readers, rivals)
+    if len(own) == 1:
+        return NOTHING_MOVES
+    # A standing is one integer for the leads over all rivals, each a digit with half of a digit added. A lead is by
+    # how much somebody's score is greater, own marks left out, and one less if the rival is ahead where both are equal.
+    half = 2 * greatest_total(rule) + 2
+    digits = [power(2 * half, place) for place in range(len(rivals))]
+    people = rule.crowd.people
+    later = people[people.index(person):]
+    start = sum([digit * (half if rival in later else half - 1) for rival, digit in zip(rivals, digits)])
+    weights = {rival: -part_of_score(rule, readers[rival]) * digit for rival, digit in zip(rivals, digits)}
+    weights[person] = part_of_score(rule, readers[person]) * sum(digits)
+    parts = [rows_by_parts(people, rows, marker, readers, weights) for marker in people if marker != person]
+    stages = totals_by_stages(start, parts)
+    places, standing, levels = widest(own, digits, half, stages[-1])
+    if places == 0:
+        return NOTHING_MOVES
+    return (places, levels, list(own.values()), rows_that_make(standing, parts, stages))
 
 
 def turned_lift(rule, person):
     """The greatest number of places by which own marks can move somebody's rank."""
     need_small_rule(rule, person)
-    return widest(rule, person)[0]
+    return tried(rule, person)[0]
 
 
 def turned_lifts(rule):
@@ -125,23 +206,24 @@ def turned_lifts(rule):
     return {person: turned_lift(rule, person) for person in rule.crowd.people}
 
 
-def count_sums(rule, person):
-    """How many unlike sums somebody has."""
-    need_small_rule(rule, person)
-    return len(others_by_sums(rule, person))
-
-
 def page_by_rows(crowd, rows):
-    return Page(crowd, {(marker, marked): mark for marker, row in rows for marked, mark in row.items()})
+    """The full page with the marks of these rows, in the order of the crowd."""
+    marks = [mark for row in rows for mark in row]
+    return Page(crowd, {pair: mark for pair, mark in zip(crowd.pairs(), marks)})
 
 
 def turned_pages(rule, person):
     """Two full pages, unlike in somebody's row alone, by which its ranks are lift places apart, or None."""
     need_small_rule(rule, person)
-    places, others, best, worst = widest(rule, person)
+    places, levels, own, others = tried(rule, person)
     if places == 0:
         return None
-    return (page_by_rows(rule.crowd, [*others, (person, best)]), page_by_rows(rule.crowd, [*others, (person, worst)]))
+    # All rows put so many rivals ahead, and some no more than these.
+    fewest = levels.count(levels[0]) - 1
+    best = own[(levels[fewest] - levels[fewest + 1]).bit_length() - 1]
+    worst = own[levels[fewest + places].bit_length() - 1]
+    earlier, later = others[:rule.crowd.place(person)], others[rule.crowd.place(person):]
+    return (page_by_rows(rule.crowd, [*earlier, best, *later]), page_by_rows(rule.crowd, [*earlier, worst, *later]))
 
 
 def turned_reach(rule, page, person):

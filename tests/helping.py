@@ -3,6 +3,7 @@
 import functools
 import itertools
 import random
+import sys
 import unittest
 from fractions import Fraction
 from statistics import median
@@ -43,6 +44,22 @@ class RefusingCase(unittest.TestCase):
             call(*given, **named)
         self.assertIs(type(caught.exception), kind)
         self.assertIs(getattr(caught.exception, field), value)
+
+
+def calls_in(call, *given):
+    """How many functions of Python's own code are entered in a call: what it costs, whatever the machine."""
+    entered = [0]
+
+    def told(frame, event, value):
+        entered[0] += event == "call"
+
+    before = sys.getprofile()
+    sys.setprofile(told)
+    try:
+        call(*given)
+    finally:
+        sys.setprofile(before)
+    return entered[0]
 
 
 def odd_without(*kept):

@@ -12,12 +12,12 @@ LIBRARY = {"math": {"gcd", "lcm"}}
 BUILTINS = set("""len range enumerate zip min max sum abs sorted reversed int str bool list tuple dict set isinstance
     ord repr any all divmod iter next ValueError TypeError KeyError IndexError LookupError OverflowError""".split())
 METHODS = set("""append clear copy count endswith extend find get index insert isalnum isalpha isdigit items join keys
-    lower pop remove replace reverse setdefault split splitlines startswith strip update values""".split())
+    lower pop remove replace reverse setdefault split splitlines startswith strip update values bit_length""".split())
 DOUBLE = set("""__init__ __eq__ __len__ __call__ __iter__ __contains__ __getitem__ __or__ __and__
     __setitem__ __enter__ __exit__""".split())
 NODES = set("""Module Expr Constant ImportFrom alias FunctionDef ClassDef arguments arg Return Assign Name Load Store Call
     keyword Attribute Subscript Slice Tuple List Dict If IfExp For While Raise BoolOp And Or UnaryOp Not USub BinOp Add
-    Sub Mult FloorDiv Mod Compare Eq NotEq Lt LtE Gt GtE In NotIn Is IsNot ListComp DictComp comprehension Lambda Yield
+    Sub Mult FloorDiv Mod BitOr BitAnd LShift Compare Eq NotEq Lt LtE Gt GtE In NotIn Is IsNot ListComp DictComp comprehension Lambda Yield
     Pass Break Continue AugAssign SetComp Starred
     Try ExceptHandler""".split())
 BARRED = set("""register mro elements open input law type typing enum Enum Flag Generic Protocol ABC dataclass overload
@@ -40,6 +40,22 @@ def own_names(trees):
         for node in ast.walk(tree):
             if isinstance(node, (ast.FunctionDef, ast.ClassDef)):
                 found.add(node.name)
+    return found
+
+
+def called(node):
+    """The name of what is called, "" if it is no plain name."""
+    return node.func.id if isinstance(node, ast.Call) and isinstance(node.func, ast.Name) else ""
+
+
+def wrong_reversed(tree):
+    """The lines where reversed goes over what an object with [ ] may be."""
+    found = []
+    for node in ast.walk(tree):
+        if called(node) == "reversed":
+            plain = isinstance(node.args[0], (ast.List, ast.Tuple, ast.Constant))
+            if not plain and called(node.args[0]) not in ("list", "tuple", "sorted", "range"):
+                found.append(node.lineno)
     return found
 
 
@@ -156,6 +172,16 @@ class LanguageTest(unittest.TestCase):
             if isinstance(value, ast.Call):
                 called = getattr(value.func, "id", None) or getattr(value.func, "attr", None)
                 self.assertNotIn(called, ("zip", "enumerate", "reversed", "items", "values", "keys"), where)
+
+    def test_reversed(self):
+        for name, tree in self.trees.items():
+            self.assertEqual(wrong_reversed(tree), [], name)
+        wrong = ["reversed(members)", "enumerate(reversed(members))", "reversed(page.rows)", "reversed(rows[1:])", "reversed(zip(a, b))",
+                 "reversed([one for one in rows])", "reversed(rows())"]
+        for row in wrong:
+            self.assertEqual(wrong_reversed(ast.parse(f"def told(members):\n    return list({row})")), [2], row)
+        for row in ["list(rows)", "tuple(rows)", "sorted(rows)", "range(3)", "[1, 2]", "(1, 2)", "'ab'"]:
+            self.assertEqual(wrong_reversed(ast.parse(f"def told(rows):\n    return list(reversed({row}))")), [], row)
 
     def test_sets_stand_where_they_are_measured(self):
         def is_set(node):

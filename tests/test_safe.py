@@ -10,7 +10,7 @@ from ownmarks.errors import BadArgument, NotThere
 from ownmarks.pages import Page
 from ownmarks.rules import Rule
 from ownmarks.safe import best_lot, best_share, bounds_share, is_lot, share_paper, view_of, views
-from tests.helping import ODD, Alike, RefusingCase, as_tuple, crowd_of, odd_without
+from tests.helping import ODD, Alike, RefusingCase, as_tuple, calls_in, crowd_of, odd_without
 
 CROWDS = [Crowd(people, 1) for people in (["a", "b"], ["b", "a"], ["a", "b", "c"], ["c", "a", "b"], ["b", "c", "a"], ["zoe", "al"])]
 NO_SHARES = odd_without() + [(-1, 2), (2, 4), (0, 2), (1, 0), (1, -1), (True, 1), (1, True), (1.0, 1), [1, 2], (1,), (1, 2, 3), 1, "1/2",
@@ -179,6 +179,45 @@ class IsLotTest(unittest.TestCase):
                         wrong.append({**good, other: (0, 1)})
             for value in wrong:
                 self.assertIs(is_lot(crowd, value, (0, 1)), False, value)
+
+
+    def test_any_order_of_keys(self):
+        chance = random.Random(84)
+        for crowd in CROWDS:
+            rows = list(best_lot(crowd).items())
+            chance.shuffle(rows)
+            self.assertIs(is_lot(crowd, dict(rows), (1, 2)), True)
+            self.assertIs(is_lot(crowd, dict(rows), (4, 7)), False)
+
+    def test_every_page_counts(self):
+        # A lot in which one page alone is wrong: a chance too much, or one too little.
+        for crowd in (crowd_of(2, 1), crowd_of(3, 1)):
+            for marks in all_page_marks(crowd):
+                lot = {(person, view): (0, 1) for person in crowd for view in views(crowd, person)}
+                for person in crowd:
+                    lot[person, plain_view(crowd, person, marks)] = (1, len(crowd))
+                self.assertIs(is_lot(crowd, lot, (0, 1)), True)
+                for person in crowd:
+                    more = {**lot, (person, plain_view(crowd, person, marks)): (51, 50 * len(crowd))}
+                    self.assertIs(is_lot(crowd, more, (0, 1)), False)
+
+    def test_great_fractions(self):
+        crowd = crowd_of(3, 1)
+        lot = best_lot(crowd)
+        for at, key in enumerate(list(lot)[::7]):
+            worth = Fraction(*lot[key])
+            less = worth * Fraction(10 ** 3000 + at, 10 ** 3000 + at + 1)
+            lot[key] = as_tuple(less)
+        share = plain_lot_share(crowd, lot)
+        for one in near(share):
+            self.assertIs(is_lot(crowd, lot, as_tuple(one)), one <= share)
+
+    def test_few_steps(self):
+        crowd = crowd_of(3, 1)
+        lot = best_lot(crowd)
+        # Page by page and mark by mark it was 3800 and 2300.
+        self.assertLess(calls_in(is_lot, crowd, lot, (1, 2)), 900)
+        self.assertLess(calls_in(is_lot, crowd, {key: (1, 1) for key in lot}, (1, 2)), 550)
 
 
 class BoundsShareTest(unittest.TestCase):
