@@ -2,6 +2,8 @@
 
 from math import gcd
 
+from ownmarks.errors import BadNumber
+
 LETTERS = "abcdefghijklmnopqrstuvwxyz"
 LONGEST = 8
 NOUGHT = (0, 1)
@@ -14,6 +16,12 @@ def is_integer(value):
 
 def is_integer_within(value, least, most):
     return is_integer(value) and least <= value <= most
+
+
+def need_number(number, least, most):
+    """Raise BadNumber(number) for what is no integer from the least to the most."""
+    if not is_integer_within(number, least, most):
+        raise BadNumber(number)
 
 
 def is_word(value):

@@ -1,7 +1,7 @@
 """Live rounds: the marks of a page come one by one, with changes that can be taken back."""
 
-from ownmarks.errors import BadChange, BadMark, BadPair, BadText, NothingLeft
-from ownmarks.pages import Page, is_mark
+from ownmarks.errors import BadChange, BadPair, BadText, NothingLeft
+from ownmarks.pages import Page, is_mark, need_mark, need_pair
 from ownmarks.rules import need_plain_rule
 from ownmarks.scores import ranks
 from ownmarks.texts import is_number_word
@@ -10,10 +10,8 @@ from ownmarks.toldback import can_rank
 
 def need_new_mark(crowd, pair, mark):
     """Raise BadPair(pair) for what is no pair, BadMark(mark) for what is no mark."""
-    if not crowd.is_pair(pair):
-        raise BadPair(pair)
-    if not is_mark(crowd, mark):
-        raise BadMark(mark)
+    need_pair(crowd, pair)
+    need_mark(crowd, mark)
 
 
 def journal_line(pair, mark):
@@ -61,8 +59,7 @@ class Live:
         return all([len(self.can_rank(person)) == 1 for person in self._rule.crowd.people])
 
     def __getitem__(self, at):
-        if not self._rule.crowd.is_pair(at):
-            raise BadPair(at)
+        need_pair(self._rule.crowd, at)
         return self._marks[at]
 
     def __setitem__(self, at, worth):

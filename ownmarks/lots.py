@@ -2,10 +2,8 @@
 
 from ownmarks.basics import all_tuples, is_less, lowest_terms, power
 from ownmarks.crowds import are_some_people, need_crowd
-from ownmarks.errors import BadArgument, TooMany
-from ownmarks.pages import Page
-
-MOST_PAGES = 4096
+from ownmarks.errors import BadArgument
+from ownmarks.pages import Page, need_few_pages
 
 
 def need_any_full_page(page):
@@ -92,9 +90,8 @@ def lot_ratio(page):
 def worst_lot(crowd):
     """A tuple of the least ratio of all full pages and a page with it, or None without marks above 0."""
     need_crowd(crowd)
+    need_few_pages(crowd)
     people, pairs = crowd.people, crowd.pairs()
-    if power(crowd.most + 1, len(pairs)) > MOST_PAGES:
-        raise TooMany(MOST_PAGES)
     told = None
     for row in all_tuples(crowd.most, len(pairs)):
         marks = {pair: mark for pair, mark in zip(pairs, row)}

@@ -1,8 +1,10 @@
 """Pages: what the people of a crowd mark one another, with marks that may be missing."""
 
-from ownmarks.basics import is_integer_within
+from ownmarks.basics import is_integer_within, power
 from ownmarks.crowds import need_crowd, need_person
-from ownmarks.errors import BadArgument, BadMark, BadPage, BadPair
+from ownmarks.errors import BadArgument, BadMark, BadPage, BadPair, TooMany
+
+MOST_PAGES = 4096
 
 
 def is_mark(crowd, value):
@@ -46,8 +48,7 @@ class Page:
         return all([mark is not None for mark in self._marks.values()])
 
     def __getitem__(self, at):
-        if not self.crowd.is_pair(at):
-            raise BadPair(at)
+        need_pair(self.crowd, at)
         return self._marks[at]
 
     def __iter__(self):
@@ -63,8 +64,7 @@ class Page:
 
     def with_mark(self, pair, mark):
         """The page with another mark, or None, for one pair."""
-        if not self.crowd.is_pair(pair):
-            raise BadPair(pair)
+        need_pair(self.crowd, pair)
         if not is_mark_or_none(self.crowd, mark):
             raise BadMark(mark)
         return Page(self.crowd, {at: mark if at == pair else old for at, old in self._marks.items()})
@@ -113,3 +113,26 @@ def is_row_change(crowd, person, value):
     if not is_full_page(crowd, page) or not is_full_page(crowd, other):
         return False
     return page.with_row(person, other.row(person)) == other
+
+
+def page_with(crowd, told):
+    """The full page with the marks that are told, a dict from some pairs, and mark 0 for all others."""
+    return Page(crowd, {pair: told.get(pair, 0) for pair in crowd.pairs()})
+
+
+def need_few_pages(crowd):
+    """Raise TooMany(4096) for a crowd with more full pages."""
+    if power(crowd.most + 1, len(crowd.pairs())) > MOST_PAGES:
+        raise TooMany(MOST_PAGES)
+
+
+def need_pair(crowd, pair):
+    """Raise BadPair(pair) for what is no pair of the crowd."""
+    if not crowd.is_pair(pair):
+        raise BadPair(pair)
+
+
+def need_mark(crowd, mark):
+    """Raise BadMark(mark) for what is no mark of the crowd."""
+    if not is_mark(crowd, mark):
+        raise BadMark(mark)

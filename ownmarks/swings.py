@@ -121,6 +121,19 @@ def marks_where_decided(rule, person, member, score):
     return [0] * below + marks_summing_to(total, many - 1, most) + [most] * above
 
 
+def marks_that_decide(rule, marker, person, member):
+    """A dict from pairs to marks by which a marker's mark for a member decides whether somebody is ahead of it."""
+    # With mark 0 somebody is ahead, with the greatest one the member is. Whoever is earlier is ahead where both have
+    # nought; whoever is later needs the least score above it, which no member's greatest score is less than.
+    earlier = rule.crowd.place(person) < rule.crowd.place(member)
+    score = possible_scores(rule, person)[0 if earlier else 1]
+    told = {(reader, person): mark for reader, mark in zip(rule.readers(person), marks_for_score(rule, person, score))}
+    others = [reader for reader in rule.readers(member) if reader != marker]
+    for reader, mark in zip(others, marks_where_decided(rule, person, member, score)):
+        told[reader, member] = mark
+    return told
+
+
 def lift_page(rule, person, score):
     """A full page on which the own mark for each member that is decided at the score decides."""
     marks = {pair: 0 for pair in rule.crowd.pairs()}

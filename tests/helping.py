@@ -39,7 +39,7 @@ ODD = [None, True, False, -1, 11, 2.0, 1j, "", "A", "zz", "ninesigns", b"a", [],
 class RefusingCase(unittest.TestCase):
     """Tests of calls that raise an error of just this class, with just this value in its field."""
 
-    def refused(self, kind, field, value, call, *given, **named):
+    def refused(self, kind, field, value, call, /, *given, **named):
         with self.assertRaises(kind) as caught:
             call(*given, **named)
         self.assertIs(type(caught.exception), kind)
