@@ -73,7 +73,8 @@ def partings_with(sizes):
     found = [([], list(sizes))]
     for place in range(sum(sizes)):
         found = [more for lists, left in found for more in with_one_more(lists, left, place)]
-    return sorted([[members for _, members in lists] for lists, _ in found])
+    whole = [lists for lists, _ in found]
+    return sorted([[members for _, members in lists] for lists in whole])
 
 
 def cost_of_list(rule, members):

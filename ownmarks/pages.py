@@ -115,6 +115,11 @@ def is_row_change(crowd, person, value):
     return page.with_row(person, other.row(person)) == other
 
 
+def page_of_marks(crowd, marks):
+    """The full page with these marks, in the order of the pairs."""
+    return Page(crowd, {pair: mark for pair, mark in zip(crowd.pairs(), marks)})
+
+
 def page_with(crowd, told):
     """The full page with the marks that are told, a dict from some pairs, and mark 0 for all others."""
     return Page(crowd, {pair: told.get(pair, 0) for pair in crowd.pairs()})

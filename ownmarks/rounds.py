@@ -3,7 +3,7 @@
 from ownmarks.basics import all_tuples, is_integer_within, need_number
 from ownmarks.crowds import need_person
 from ownmarks.errors import BadArgument
-from ownmarks.pages import Page, need_few_pages, need_page, need_pair
+from ownmarks.pages import need_few_pages, need_page, need_pair, page_of_marks
 from ownmarks.rules import need_rule
 from ownmarks.scores import turned_tops
 from ownmarks.web import rank_reads
@@ -77,11 +77,6 @@ def said_by_rows(rule):
         rows = all_tuples(rule.crowd.most, len(others))
         told.append({row: said_by(rule, marker, {other: mark for other, mark in zip(others, row)}) for row in rows})
     return told
-
-
-def page_of_marks(crowd, marks):
-    """The full page with these marks, in the order of the pairs."""
-    return Page(crowd, {pair: mark for pair, mark in zip(crowd.pairs(), marks)})
 
 
 class Rounds:

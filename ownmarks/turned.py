@@ -3,7 +3,7 @@
 from ownmarks.basics import all_tuples, power
 from ownmarks.crowds import need_person
 from ownmarks.errors import BadArgument, TooMany
-from ownmarks.pages import Page, need_full_page
+from ownmarks.pages import need_full_page, page_of_marks
 from ownmarks.rules import GATHERS_OF_TURNED_ROWS, need_rule
 from ownmarks.scores import ranks, turned_tops
 
@@ -208,8 +208,7 @@ def turned_lifts(rule):
 
 def page_by_rows(crowd, rows):
     """The full page with the marks of these rows, in the order of the crowd."""
-    marks = [mark for row in rows for mark in row]
-    return Page(crowd, {pair: mark for pair, mark in zip(crowd.pairs(), marks)})
+    return page_of_marks(crowd, [mark for row in rows for mark in row])
 
 
 def turned_pages(rule, person):

@@ -1,28 +1,55 @@
 """The files of the package keep to the small language that the project is written in."""
 
 import ast
-import builtins
 import os
 import unittest
 
 import ownmarks
+from tests import language
 
 FOLDER = os.path.dirname(os.path.abspath(ownmarks.__file__))
-LIBRARY = {"math": {"gcd", "lcm"}}
-BUILTINS = set("""len range enumerate zip min max sum abs sorted reversed int str bool list tuple dict set isinstance
-    ord repr any all divmod iter next ValueError TypeError KeyError IndexError LookupError OverflowError""".split())
-METHODS = set("""append clear copy count endswith extend find get index insert isalnum isalpha isdigit items join keys
-    lower pop remove replace reverse setdefault split splitlines startswith strip update values bit_length""".split())
-DOUBLE = set("""__init__ __eq__ __len__ __call__ __iter__ __contains__ __getitem__ __or__ __and__
-    __setitem__ __enter__ __exit__""".split())
-NODES = set("""Module Expr Constant ImportFrom alias FunctionDef ClassDef arguments arg Return Assign Name Load Store Call
-    keyword Attribute Subscript Slice Tuple List Dict If IfExp For While Raise BoolOp And Or UnaryOp Not USub BinOp Add
-    Sub Mult FloorDiv Mod BitOr BitAnd LShift Compare Eq NotEq Lt LtE Gt GtE In NotIn Is IsNot ListComp DictComp comprehension Lambda Yield
-    Pass Break Continue AugAssign SetComp Starred
-    Try ExceptHandler""".split())
-BARRED = set("""register mro elements open input law type typing enum Enum Flag Generic Protocol ABC dataclass overload
-    attrgetter compile dir eval exec exit gc getattr globals hasattr help id importlib locals os quit setattr super sys
-    vars map format args""".split())
+
+# For each look, rows that it must find: each sample has the row that is wrong last, or alone.
+WRONG = {
+    "kinds": ["x = lambda a: a", "def f(a):\n    return a ** 2", "def f(a):\n    return a / 2", "import math", "def f(a):\n    global b",
+              "def f(a):\n    return (one for one in a)", "def f(a):\n    assert a", "def f(a: int = 1):\n    b: int = 1", "def f(a):\n    del a[0]"],
+    "module_level": ["f(1)", "A = [1, 2]", "A = B = 1", "A = (1, [2])", "A = {1: {2: 3}}", "A = len((1,))", "for a in (1,):\n    pass", "A = 1 + 2"],
+    "sizes": ["def f(a):\n" + "    a = 1\n" * 40],
+    "names": ["def f(a):\n    return hash(a)", "def f(id):\n    return id", "def f(a):\n    min = a", "def f(a):\n    return a.__class__",
+              "def __odd(a):\n    return a", "def f(a):\n    return a.mro", "def f(a):\n    return a(open=1)", "def f(a):\n    return bytes(a)",
+              "def f(a):\n    return map(f, a)"],
+    "bindings": ["def f(f):\n    return f", "A = 1\nA = 2", "def f(a):\n    f = a", "from ownmarks.crowds import Crowd\ndef f(a):\n    Crowd = a",
+                 "def f(a):\n    return [f for f in a]"],
+    "library": ["from math import gcd\nA = gcd", "from math import lcm\ndef f(a):\n    return f(lcm)",
+                "from math import comb\ndef f(a):\n    return comb(a, k=1)"],
+    "decorators": ["@f\ndef g(a):\n    return a", "class A:\n    @classmethod\n    def f(cls):\n        return 1", "@f\nclass A:\n    pass",
+                   "class A:\n    @cut.setter\n    def cut(self, a):\n        pass"],
+    "methods_that_change": ["class A:\n    def __len__(self):\n        self.n = 1", "class A:\n    def __eq__(self, o):\n        self.rows.append(1)",
+                            "class A:\n    def __or__(self, o):\n        o[1] = 2", "class A:\n    @property\n    def a(self):\n        self.n += 1"],
+    "ends_of_methods": ["class A:\n    def __init__(self):\n        return None", "class A:\n    def __len__(self):\n        return self.n"],
+    "leaving": ["class A:\n    def __exit__(self, kind, value, trace):\n        self.a.clear()",
+                "class A:\n    def __exit__(self, kind, value, trace):\n        if value:\n            pass",
+                "class A:\n    def __exit__(self, kind, value, trace):\n        self.a = list(self.b)"],
+    "wrong_super": ["class A(B):\n    def f(self):\n        return super().f()", "def f():\n    return super()"],
+    "identities": ["def f(a, b):\n    return a is b", "def f(a, b):\n    return a is not 1"],
+    "keywords": ["def f(a):\n    return int(a, base=2)", "def f(a):\n    return max(1, 2, default=a)", "def f(a):\n    return zip(a, strict=True)"],
+    "kept_views": ["def f(a):\n    return zip(a)", "def f(a):\n    b = a.items()", "def f(a):\n    return len(a.keys())", "def f(a):\n    g(enumerate(a))",
+                   "def f(a):\n    return set(a.values())", "def f(a):\n    return reversed(a)"],
+    "wrong_reversed": ["def f(a):\n    return list(reversed(a))", "def f(a):\n    return [b for b in enumerate(reversed(a))]",
+                       "def f(a):\n    return list(reversed(a.rows))", "def f(a):\n    return list(reversed(a[1:]))",
+                       "def f(a):\n    return list(reversed(zip(a, a)))", "def f(a):\n    return list(reversed([b for b in a]))",
+                       "def f(a):\n    return list(reversed(g(a)))"],
+    "generators": ["def f(a):\n    return any(b for b in a)", "def f(a):\n    return sum((b for b in a))"],
+    "wrong_sets": ["def f(a):\n    b = set(a)", "def f(a):\n    return {b for b in a}", "def f(a):\n    return [b for b in set(a)]",
+                   "def f(a):\n    return {1, a}", "def f(a):\n    return sorted(set(a), key=f)"],
+    "changed_in_loops": ["def f(a):\n    for b in a:\n        a.append(b)", "def f(a):\n    for at, b in enumerate(a):\n        a[at] = b",
+                         "def f(a):\n    for b in a.rows:\n        a.rows.pop()", "def f(a):\n    for b in a:\n        a += [b]"],
+    "comprehended_names": ["def f(a):\n    return [[b for b in a] for b in a]"],
+    "wrong_f_strings": ["def f(a):\n    return f'{a:>3}'", "def f(a):\n    return f'{a!r}'", "def f(a):\n    return f\"{a['b']}\""],
+    "constants": ["A = 1.5", "A = b'a'", "def f(a):\n    return a == 1j"],
+    "defaults": ["def f(a=[]):\n    return a", "def f(*a):\n    return a", "def f(**a):\n    return a", "def f(a):\n    def g():\n        pass"],
+    "classes_with_items": ["class A:\n    def __getitem__(self, at):\n        return at"],
+}
 
 
 def package_files():
@@ -34,43 +61,13 @@ def package_files():
     return found
 
 
-def own_names(trees):
-    found = set()
-    for tree in trees.values():
-        for node in ast.walk(tree):
-            if isinstance(node, (ast.FunctionDef, ast.ClassDef)):
-                found.add(node.name)
-    return found
-
-
-def called(node):
-    """The name of what is called, "" if it is no plain name."""
-    return node.func.id if isinstance(node, ast.Call) and isinstance(node.func, ast.Name) else ""
-
-
-def wrong_reversed(tree):
-    """The lines where reversed goes over what an object with [ ] may be."""
-    found = []
-    for node in ast.walk(tree):
-        if called(node) == "reversed":
-            plain = isinstance(node.args[0], (ast.List, ast.Tuple, ast.Constant))
-            if not plain and called(node.args[0]) not in ("list", "tuple", "sorted", "range"):
-                found.append(node.lineno)
-    return found
-
-
 class LanguageTest(unittest.TestCase):
     @classmethod
     def setUpClass(cls):
         cls.files = dict(package_files())
         cls.trees = {name: ast.parse(data) for name, data in cls.files.items()}
-        cls.own = own_names(cls.trees)
-
-    def nodes(self, *kinds):
-        for name, tree in self.trees.items():
-            for node in ast.walk(tree):
-                if not kinds or isinstance(node, kinds):
-                    yield f"{name}:{getattr(node, 'lineno', 0)}", node
+        cls.classes = {node.name for tree in cls.trees.values() for node in ast.walk(tree) if isinstance(node, ast.ClassDef)}
+        cls.own = {node.name for tree in cls.trees.values() for node in ast.walk(tree) if isinstance(node, ast.FunctionDef)}
 
     def test_files_and_lines(self):
         self.assertIn("__init__.py", self.files)
@@ -78,126 +75,117 @@ class LanguageTest(unittest.TestCase):
             self.assertRegex(name, r"^(__init__|[a-z0-9_]+)\.py$")
             lines = data.decode("ascii").split("\n")
             self.assertLessEqual(len(lines), 399, name)
+            self.assertTrue(ast.get_docstring(self.trees[name]), name)
             for number, line in enumerate(lines, 1):
                 self.assertLessEqual(len(line), 120, f"{name}:{number}")
                 self.assertTrue(all(" " <= sign <= "~" for sign in line), f"{name}:{number}")
 
-    def test_sizes_of_functions(self):
-        for where, node in self.nodes(ast.FunctionDef):
-            self.assertLessEqual(node.end_lineno - node.lineno + 1, 40, where)
+    def test_looks(self):
+        for look in language.LOOKS:
+            for name, tree in self.trees.items():
+                self.assertEqual(look(tree), [], f"{name}: {look.__name__}")
 
-    def test_kinds_of_code(self):
-        for where, node in self.nodes():
-            self.assertIn(type(node).__name__, NODES, where)
+    def test_each_look_finds_what_is_wrong(self):
+        self.assertEqual(set(WRONG), {look.__name__ for look in language.LOOKS})
+        for look in language.LOOKS:
+            for text in WRONG[look.__name__]:
+                self.assertNotEqual(look(ast.parse(text)), [], text)
 
-    def test_module_level(self):
-        for name, tree in self.trees.items():
-            for node in tree.body:
-                self.assertIn(type(node).__name__, ["Expr", "ImportFrom", "FunctionDef", "ClassDef", "Assign"], name)
-            self.assertTrue(ast.get_docstring(tree), name)
+    def test_what_reversed_may_go_over(self):
+        for row in ["list(rows)", "tuple(rows)", "sorted(rows)", "range(3)", "[1, 2]", "(1, 2)", "'ab'"]:
+            self.assertEqual(language.wrong_reversed(ast.parse(f"def told(rows):\n    return list(reversed({row}))")), [], row)
 
-    def test_imports(self):
-        for where, node in self.nodes(ast.ImportFrom):
-            self.assertEqual(node.level, 0, where)
-            for alias in node.names:
-                self.assertIsNone(alias.asname, where)
-                if node.module in LIBRARY:
-                    self.assertIn(alias.name, LIBRARY[node.module], where)
-                    continue
-                folder, file = node.module.split(".")
-                self.assertEqual(folder, "ownmarks", where)
-                tops = [getattr(top, "name", None) for top in self.trees[file + ".py"].body]
-                values = [top.targets[0].id for top in self.trees[file + ".py"].body if isinstance(top, ast.Assign)]
-                self.assertIn(alias.name, tops + values, where)
-
-    def test_names(self):
-        for where, node in self.nodes(ast.Name, ast.arg, ast.FunctionDef, ast.Attribute, ast.ClassDef):
-            name = getattr(node, "id", None) or getattr(node, "arg", None) or getattr(node, "name", None) or node.attr
-            self.assertNotIn(name, BARRED, where)
-            if name[:2] == "__":
-                self.assertIn(name, DOUBLE, where)
-            elif isinstance(node, ast.Name) and isinstance(node.ctx, ast.Load):
-                if hasattr(builtins, name) and name not in ("property", "staticmethod"):
-                    self.assertIn(name, BUILTINS, where)
-            elif not isinstance(node, ast.Attribute):
-                self.assertFalse(hasattr(builtins, name), where)
-
-    def test_no_local_name_hides_another_one(self):
-        for name, tree in self.trees.items():
-            tops = {alias.name for node in tree.body if isinstance(node, ast.ImportFrom) for alias in node.names}
-            tops |= {node.name for node in tree.body if isinstance(node, (ast.ClassDef, ast.FunctionDef))}
-            bound = [node.targets[0].id for node in tree.body if isinstance(node, ast.Assign)]
-            for node in ast.walk(tree):
-                if isinstance(node, ast.arg):
-                    self.assertNotIn(node.arg, tops, f"{name}:{node.lineno}")
-                elif isinstance(node, ast.Name) and isinstance(node.ctx, ast.Store):
-                    self.assertNotIn(node.id, tops, f"{name}:{node.lineno}")
-            self.assertEqual(len(bound), len(set(bound)), name)
+    def test_words(self):
+        for name, data in self.files.items():
+            self.assertEqual(language.barred_words(data.decode("ascii")), [], name)
+        for text in ["A = 'type'", "A = 'so __odd__'", "A = '5 %'", "A = 'enum a'", "A = 'a._'"]:
+            self.assertNotEqual(language.barred_words(text), [], text)
 
     def test_methods_that_are_called(self):
-        for where, node in self.nodes(ast.Call):
-            if isinstance(node.func, ast.Attribute):
-                self.assertIn(node.func.attr, METHODS | self.own, where)
-
-    def test_generators(self):
-        folding = ("any", "all", "min", "max", "sum", "sorted", "list", "tuple", "dict")
-        yielding = [node for _, node in self.nodes(ast.FunctionDef)
-                    if any(isinstance(part, ast.Yield) for part in ast.walk(node))]
-        self.assertEqual(len({node.name for node in yielding}), len(yielding))
-        for where, node in self.nodes(ast.Call):
-            if isinstance(node.func, ast.Name) and node.func.id in folding:
-                self.assertFalse(any(isinstance(part, ast.GeneratorExp) for part in node.args), where)
-
-    def test_decorators(self):
-        for where, node in self.nodes(ast.FunctionDef, ast.ClassDef):
-            for decorator in node.decorator_list:
-                self.assertIn(getattr(decorator, "id", ""), ("property", "staticmethod"), where)
-
-    def test_only_own_errors_are_caught(self):
-        for where, node in self.nodes(ast.Try):
-            self.assertEqual((node.orelse, node.finalbody, len(node.body)), ([], [], 1), where)
-            for handler in node.handlers:
-                self.assertIn(handler.type.id, self.own, where)
-
-    def test_is(self):
-        for where, node in self.nodes(ast.Compare):
-            for sign, right in zip(node.ops, node.comparators):
-                if isinstance(sign, (ast.Is, ast.IsNot)):
-                    self.assertIsInstance(right, ast.Constant, where)
-                    self.assertIn(right.value, (None, True, False), where)
-
-    def test_views_stand_where_they_are_iterated(self):
-        for where, node in self.nodes(ast.Assign, ast.Return):
-            value = node.value
-            if isinstance(value, ast.Call):
-                called = getattr(value.func, "id", None) or getattr(value.func, "attr", None)
-                self.assertNotIn(called, ("zip", "enumerate", "reversed", "items", "values", "keys"), where)
-
-    def test_reversed(self):
         for name, tree in self.trees.items():
-            self.assertEqual(wrong_reversed(tree), [], name)
-        wrong = ["reversed(members)", "enumerate(reversed(members))", "reversed(page.rows)", "reversed(rows[1:])", "reversed(zip(a, b))",
-                 "reversed([one for one in rows])", "reversed(rows())"]
-        for row in wrong:
-            self.assertEqual(wrong_reversed(ast.parse(f"def told(members):\n    return list({row})")), [2], row)
-        for row in ["list(rows)", "tuple(rows)", "sorted(rows)", "range(3)", "[1, 2]", "(1, 2)", "'ab'"]:
-            self.assertEqual(wrong_reversed(ast.parse(f"def told(rows):\n    return list(reversed({row}))")), [], row)
+            self.assertEqual(language.methods(tree, self.own | {"__init__"}), [], name)
+        for text in ["def f(a):\n    return a.sort()", "def f(a):\n    return a.split(sep='b')", "def f(a):\n    return a.title()"]:
+            self.assertNotEqual(language.methods(ast.parse(text)), [], text)
 
-    def test_sets_stand_where_they_are_measured(self):
-        def is_set(node):
-            return isinstance(node, ast.SetComp) or isinstance(node, ast.Call) and getattr(node.func, "id", "") == "set"
+    def test_errors(self):
+        for name, tree in self.trees.items():
+            self.assertEqual(language.catching(tree, self.classes), [], name)
+        for row in ["except ValueError:\n        pass", "except (A, KeyError):\n        pass", "except A as e:\n        return str(e)",
+                    "except A:\n        raise f(1)", "finally:\n        pass"]:
+            self.assertNotEqual(language.catching(ast.parse(f"def f(a):\n    try:\n        a()\n    {row}"), {"A"}), [], row)
 
-        measured = [part for _, node in self.nodes(ast.Call) if getattr(node.func, "id", "") in ("len", "sorted")
-                    for part in node.args]
-        for where, node in self.nodes():
-            if is_set(node):
-                self.assertIn(node, measured, where)
+    def test_imports(self):
+        for name, tree in self.trees.items():
+            for node in ast.walk(tree):
+                if isinstance(node, ast.ImportFrom):
+                    self.assertEqual(node.level, 0, name)
+                    for alias in node.names:
+                        self.assertIsNone(alias.asname, name)
+                        self.assertIn(alias.name, language.LIBRARY.get(node.module) or self.bound_in(node.module), name)
 
-    def test_constants(self):
-        for where, node in self.nodes(ast.Constant):
-            self.assertIsInstance(node.value, (int, str, type(None)), where)
-            if isinstance(node.value, str):
-                self.assertNotIn("%", node.value, where)
+    def bound_in(self, module):
+        """What is defined in the very file of a module of the package."""
+        folder, file = module.split(".")
+        self.assertEqual(folder, "ownmarks")
+        body = self.trees[file + ".py"].body
+        named = [top.name for top in body if isinstance(top, (ast.FunctionDef, ast.ClassDef))]
+        return named + [top.targets[0].id for top in body if isinstance(top, ast.Assign)]
+
+    def test_no_rings_of_imports(self):
+        aims = {name[:-3]: [node.module.split(".")[1] for node in tree.body if isinstance(node, ast.ImportFrom) and node.module not in language.LIBRARY]
+                for name, tree in self.trees.items()}
+        left = dict(aims)
+        while left:
+            ready = [name for name, needed in left.items() if not set(needed) & set(left)]
+            self.assertTrue(ready, left)
+            for name in ready:
+                del left[name]
+
+    def test_imports_are_used(self):
+        for name, tree in self.trees.items():
+            used = {node.id for node in ast.walk(tree) if isinstance(node, ast.Name)}
+            for node in tree.body:
+                if isinstance(node, ast.ImportFrom):
+                    self.assertEqual([alias.name for alias in node.names if alias.name not in used], [], name)
+
+    def test_names_of_generators_stand_for_nothing_else(self):
+        yielding = [node.name for tree in self.trees.values() for node in language.functions(tree) if language.walked(node, ast.Yield)]
+        every = [node.name for tree in self.trees.values() for node in language.functions(tree)]
+        self.assertEqual([name for name in yielding if every.count(name) > 1], [])
+
+    def test_methods_and_attributes_have_unlike_names(self):
+        # A property is assigned nowhere but in its setter; no method of any class has the name of an attribute.
+        properties, others, attributes = set(), set(), set()
+        for tree in self.trees.values():
+            for owner in language.walked(tree, ast.ClassDef):
+                for node in owner.body:
+                    if isinstance(node, ast.FunctionDef):
+                        (properties if any(getattr(one, "id", "") == "property" for one in node.decorator_list) else others).add(node.name)
+            for node in language.walked(tree, ast.Attribute):
+                if isinstance(node.ctx, ast.Store):
+                    attributes.add(node.attr)
+        self.assertEqual(properties & attributes, set())
+        self.assertEqual((others - {"cut"}) & (attributes | properties), set())
+
+    def test_attributes_that_are_read_are_assigned(self):
+        assigned = {node.attr for tree in self.trees.values() for node in language.walked(tree, ast.Attribute) if isinstance(node.ctx, ast.Store)}
+        for name, tree in self.trees.items():
+            for node in language.walked(tree, ast.Attribute):
+                known = assigned | self.own | language.METHODS | {"__init__", "setter"}
+                self.assertIn(node.attr, known, f"{name}:{node.lineno}")
+
+    def test_classes_are_called_or_asked_for(self):
+        for name, tree in self.trees.items():
+            above = language.parents(tree)
+            for node in language.walked(tree, ast.Name):
+                if node.id in self.classes:
+                    holder = above[node]
+                    outer = above.get(holder)
+                    told = isinstance(holder, ast.Call) and holder.func is node
+                    asked = language.is_bare(holder, "isinstance") and holder.args[1] is node
+                    base = isinstance(holder, ast.ClassDef)
+                    caught = isinstance(holder, ast.ExceptHandler) or isinstance(outer, ast.ExceptHandler)
+                    self.assertTrue(told or asked or base or caught, f"{name}:{node.lineno}")
 
 
 if __name__ == "__main__":
