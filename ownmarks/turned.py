@@ -137,7 +137,8 @@ def rows_by_leads(parts, half):
 def rows_by_rivals_ahead(rows, told):
     """The tuple of the own rows, as bits, that put no rival or more ahead, one or more, two or more, and all three."""
     # Who has fewer than three rivals has others besides that are never ahead.
-    one, two, three = [*told, 0, 0, 0][:3]
+    padded = [*told, 0, 0, 0]
+    one, two, three = padded[:3]
     return (rows, one | two | three, one & two | one & three | two & three, one & two & three)
 
 
