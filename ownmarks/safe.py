@@ -21,6 +21,8 @@ PEOPLE_IN_LOTS = (2, 3)
 # No lot has a greater share by what share_paper tells, and the one of best_lot has it.
 HALF = (1, 2)
 ONE = (1, 1)
+# More are not handy for a bottom that chances have together.
+MOST_BITS = 16384
 
 
 def need_lot_crowd(crowd):
@@ -162,12 +164,14 @@ def are_chances(people, seeing, value):
     return are_lot_keys(people, seeing, list(value))
 
 
-def tops_over_common_bottom(chances):
-    """The tuple (tops, bottom) of a dict of fractions: a dict of integers, and by what they are divided."""
+def common_bottom(fractions):
+    """The least bottom that all fractions can have, or None if it is too long to be handy."""
     common = 1
-    for _, bottom in chances.values():
+    for _, bottom in fractions:
         common = lcm(common, bottom)
-    return ({key: top * (common // bottom) for key, (top, bottom) in chances.items()}, common)
+        if common.bit_length() > MOST_BITS:
+            return None
+    return common
 
 
 def by_pages(crowd, place, told):
@@ -190,17 +194,27 @@ def sums_by_pages(crowd, told):
     return [sum(row) for row in zip(*columns)]
 
 
-def is_shared_out(crowd, seeing, chances, share):
-    """Whether on each page the chances are at most 1 together, and enough for the share."""
-    tops, whole = tops_over_common_bottom(chances)
-    parts = [[tops[person, view] for view in seeing] for person in crowd.people]
+def is_shared_out(crowd, seeing, chances, whole, share):
+    """Whether on each page the chances are at most 1 together, and enough for the share: whole is a common bottom."""
+    people = crowd.people
+    tops = {key: top * (whole // bottom) for key, (top, bottom) in chances.items()}
+    parts = [[tops[person, view] for view in seeing] for person in people]
     if any([together > whole for together in sums_by_pages(crowd, parts)]):
         return False
-    sums = [sums_by_views(crowd, person, seeing) for person in crowd.people]
+    sums = [sums_by_views(crowd, person, seeing) for person in people]
     worths = [[top * many for top, many in zip(row, marks)] for row, marks in zip(parts, sums)]
     columns = [by_pages(crowd, place, row) for place, row in enumerate(sums)]
     asked = [max(row) * share[0] * whole for row in zip(*columns)]
     return all([worth * share[1] >= least for worth, least in zip(sums_by_pages(crowd, worths), asked)])
+
+
+def is_shared_out_on(crowd, chances, marks, share):
+    """The same for one page alone."""
+    found = {person: chances[person, seen(crowd, person, marks)] for person in crowd.people}
+    if is_less(ONE, sum_of(list(found.values()))):
+        return False
+    worth = sum_of([times(found[person], many) for person, many in sums_by_person(crowd, marks).items()])
+    return not is_less(worth, times(share, greatest_sum(crowd, marks)))
 
 
 def is_lot(crowd, value, share):
@@ -209,7 +223,13 @@ def is_lot(crowd, value, share):
     need_share(share)
     # All see as many marks, so that all have the same views.
     seeing = views(crowd, crowd.people[0])
-    return are_chances(crowd.people, seeing, value) and is_shared_out(crowd, seeing, value, share)
+    if not are_chances(crowd.people, seeing, value):
+        return False
+    whole = common_bottom(list(value.values()))
+    if whole is None:
+        # With long bottoms it is quicker to go from page to page.
+        return all([is_shared_out_on(crowd, value, marks, share) for marks in page_tuples(crowd)])
+    return is_shared_out(crowd, seeing, value, whole, share)
 
 
 def is_share_row(crowd, value):

@@ -202,15 +202,24 @@ class IsLotTest(unittest.TestCase):
                     self.assertIs(is_lot(crowd, more, (0, 1)), False)
 
     def test_great_fractions(self):
-        crowd = crowd_of(3, 1)
-        lot = best_lot(crowd)
-        for at, key in enumerate(list(lot)[::7]):
-            worth = Fraction(*lot[key])
-            less = worth * Fraction(10 ** 3000 + at, 10 ** 3000 + at + 1)
-            lot[key] = as_tuple(less)
-        share = plain_lot_share(crowd, lot)
-        for one in near(share):
-            self.assertIs(is_lot(crowd, lot, as_tuple(one)), one <= share)
+        for figures in (40, 200, 3000):
+            crowd = crowd_of(3, 1)
+            lot = best_lot(crowd)
+            for at, key in enumerate(list(lot)[::3]):
+                worth = Fraction(*lot[key])
+                less = worth * Fraction(10 ** figures + at, 10 ** figures + at + 1)
+                lot[key] = as_tuple(less)
+            share = plain_lot_share(crowd, lot)
+            for one in near(share):
+                self.assertIs(is_lot(crowd, lot, as_tuple(one)), one <= share)
+            # A chance too much, by next to nothing.
+            more = {key: as_tuple(Fraction(1, 3) * Fraction(10 ** figures - at, 10 ** figures + at)) for at, key in enumerate(lot)}
+            self.assertIs(is_lot(crowd, more, (0, 1)), True)
+            key = list(more)[5]
+            more[key] = as_tuple(Fraction(*more[key]) + Fraction(1, 3 * 10 ** (figures - 3)))
+            self.assertEqual(is_lot(crowd, more, (0, 1)), plain_lot_share(crowd, more) is not None)
+            more[key] = (2, 3)
+            self.assertIs(is_lot(crowd, more, (0, 1)), False)
 
     def test_few_steps(self):
         crowd = crowd_of(3, 1)
