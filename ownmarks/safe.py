@@ -21,7 +21,7 @@ PEOPLE_IN_LOTS = (2, 3)
 # No lot has a greater share by what share_paper tells, and the one of best_lot has it.
 HALF = (1, 2)
 ONE = (1, 1)
-# More are not handy for a bottom that chances have together.
+# A bottom that all chances have together is handy as long as it has no more bits than this.
 MOST_BITS = 16384
 
 
