@@ -38,18 +38,15 @@ def aims_of_arrows(rule):
 
 def ring_from(aims, start):
     """The indexes of a shortest ring with this list, which stands first, or None."""
-    paths = [[start]]
-    seen = {}
+    paths, seen = [[start]], []
     while len(paths) > 0:
-        longer = []
-        for path in paths:
-            for aim in aims[path[-1]]:
-                if aim == start:
-                    return path
-                if aim not in seen:
-                    seen[aim] = True
-                    longer.append([*path, aim])
-        paths = longer
+        longer = [[*path, aim] for path in paths for aim in aims[path[-1]] if aim not in seen]
+        ends = [path[-1] for path in longer]
+        if start in ends:
+            return longer[ends.index(start)][:-1]
+        # One path to each list is enough.
+        paths = [path for at, path in enumerate(longer) if path[-1] not in ends[:at]]
+        seen = [*seen, *ends]
     return None
 
 

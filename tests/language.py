@@ -29,6 +29,7 @@ BARRED = set("""register mro elements open input law typing enum Enum IntEnum St
 FOLDING = ("any", "all", "min", "max", "sum", "sorted", "list", "tuple", "dict")
 VIEWS = ("zip", "enumerate", "reversed", "items", "values", "keys")
 ITERATING = ("list", "tuple", "dict", "sorted", "sum", "any", "all", "enumerate", "zip", "min", "max")
+PLACES = (ast.Name, ast.Attribute, ast.Subscript)
 COMPREHENSIONS = (ast.ListComp, ast.SetComp, ast.DictComp)
 
 
@@ -310,19 +311,55 @@ def wrong_sets(tree):
     return lines(found)
 
 
-def changed_in_loops(tree):
-    """L23: what a loop goes over is not changed in it."""
+def choices(node):
+    """What a value may be: itself, or each of those that a choice takes it from."""
+    if isinstance(node, ast.IfExp):
+        return choices(node.body) + choices(node.orelse)
+    if isinstance(node, ast.BoolOp):
+        return [one for part in node.values for one in choices(part)]
+    return [node]
+
+
+def assigned_pairs(target, value):
+    """Each target of an assignment with each value that it may get, as far as they are names, fields or items."""
+    if isinstance(target, ast.Tuple) and isinstance(value, ast.Tuple) and len(target.elts) == len(value.elts):
+        return [both for one, other in zip(target.elts, value.elts) for both in assigned_pairs(one, other)]
+    return [(target, one) for one in choices(value) if isinstance(target, PLACES) and isinstance(one, PLACES)]
+
+
+def tied(function):
+    """A dict from the names, fields and items that a function assigns to one another to all that may be the same."""
+    groups = {}
+    for node in walked(function, ast.Assign):
+        for target in node.targets:
+            for both in assigned_pairs(target, node.value):
+                words = {ast.unparse(one) for one in both}
+                group = words.union(*[groups.get(word, ()) for word in words])
+                groups.update({word: group for word in group})
+    return groups
+
+
+def changed_in(rows, over):
+    """What changes, in rows, something that is named in over: by a method, an item or an in-place sign."""
     found = []
-    for node in walked(tree, ast.For):
-        over = {ast.unparse(part) for part in ast.walk(node.iter) if isinstance(part, (ast.Name, ast.Attribute, ast.Subscript))}
-        for row in node.body:
-            for part in ast.walk(row):
-                if called(part) in CHANGING and isinstance(part.func, ast.Attribute) and ast.unparse(part.func.value) in over:
-                    found.append(part)
-                if isinstance(part, ast.Subscript) and isinstance(part.ctx, ast.Store) and ast.unparse(part.value) in over:
-                    found.append(part)
-                if isinstance(part, ast.AugAssign) and ast.unparse(part.target) in over:
-                    found.append(part)
+    for part in [part for row in rows for part in ast.walk(row)]:
+        if called(part) in CHANGING and isinstance(part.func, ast.Attribute) and ast.unparse(part.func.value) in over:
+            found.append(part)
+        if isinstance(part, ast.Subscript) and isinstance(part.ctx, ast.Store) and ast.unparse(part.value) in over:
+            found.append(part)
+        if isinstance(part, ast.AugAssign) and ast.unparse(part.target) in over:
+            found.append(part)
+    return found
+
+
+def changed_in_loops(tree):
+    """L23: what a loop goes over is not changed in it, neither by its name nor by one that it is assigned to, or from."""
+    found = []
+    for function in functions(tree):
+        groups = tied(function)
+        for node in walked(function, ast.For):
+            named = {ast.unparse(part) for part in walked(node.iter, *PLACES)}
+            found += changed_in(node.body, named.union(*[groups.get(word, ()) for word in named]))
     return lines(found)
 
 

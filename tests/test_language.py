@@ -43,7 +43,13 @@ WRONG = {
     "wrong_sets": ["def f(a):\n    b = set(a)", "def f(a):\n    return {b for b in a}", "def f(a):\n    return [b for b in set(a)]",
                    "def f(a):\n    return {1, a}", "def f(a):\n    return sorted(set(a), key=f)"],
     "changed_in_loops": ["def f(a):\n    for b in a:\n        a.append(b)", "def f(a):\n    for at, b in enumerate(a):\n        a[at] = b",
-                         "def f(a):\n    for b in a.rows:\n        a.rows.pop()", "def f(a):\n    for b in a:\n        a += [b]"],
+                         "def f(a):\n    for b in a.rows:\n        a.rows.pop()", "def f(a):\n    for b in a:\n        a += [b]",
+                         # What is walked gets the name of what was changed, or the other way round, by a field or a choice.
+                         "def f(a):\n    while a:\n        b = []\n        for c in a:\n            b.append(c)\n        a = b",
+                         "def f(a):\n    b = a\n    for c in b:\n        a[c] = 1", "def f(a):\n    b = a.rows\n    for c in b:\n        a.rows.clear()",
+                         "def f(a):\n    b = a.rows\n    for c in a.rows:\n        b.append(c)", "def f(a, b):\n    c = a if b else []\n    for d in c:\n        a.pop()",
+                         "def f(a, b):\n    c = b or a\n    for d in enumerate(c):\n        a += [d]", "def f(a):\n    b, c = [], a\n    for d in c:\n        a.append(d)",
+                         "def f(a):\n    b = c = a[0]\n    for d in c:\n        a[0].append(d)", "def f(a):\n    b = a\n    c = b\n    for d in c:\n        a.append(d)"],
     "comprehended_names": ["def f(a):\n    return [[b for b in a] for b in a]"],
     "wrong_f_strings": ["def f(a):\n    return f'{a:>3}'", "def f(a):\n    return f'{a!r}'", "def f(a):\n    return f\"{a['b']}\""],
     "constants": ["A = 1.5", "A = b'a'", "def f(a):\n    return a == 1j"],
@@ -94,6 +100,14 @@ class LanguageTest(unittest.TestCase):
     def test_what_reversed_may_go_over(self):
         for row in ["list(rows)", "tuple(rows)", "sorted(rows)", "range(3)", "[1, 2]", "(1, 2)", "'ab'"]:
             self.assertEqual(language.wrong_reversed(ast.parse(f"def told(rows):\n    return list(reversed({row}))")), [], row)
+
+    def test_what_may_be_changed_in_a_loop(self):
+        # A copy of what is walked, another list, and what another function calls so.
+        for text in ["def f(a):\n    while a:\n        b = []\n        for c in a:\n            b.append(c)\n        a = list(b)",
+                     "def f(a):\n    for b in list(a):\n        c = [b]\n        c.append(b)", "def f(a):\n    b = a[:]\n    for c in b:\n        a.append(c)",
+                     "def f(a):\n    b = a\n    for c in b:\n        pass\n\ndef g(a, b):\n    for c in b:\n        a.append(c)",
+                     "def f(a):\n    b, c = a, []\n    for d in b:\n        c.append(d)"]:
+            self.assertEqual(language.changed_in_loops(ast.parse(text)), [], text)
 
     def test_words(self):
         for name, data in self.files.items():
