@@ -4,7 +4,7 @@ from ownmarks.basics import is_less, lowest_terms
 from ownmarks.errors import BadMark, BadPair
 from ownmarks.pages import is_full_page, need_mark, need_page, need_pair, page_with
 from ownmarks.rules import need_plain_rule, need_rule
-from ownmarks.scores import gathered, ranks
+from ownmarks.scores import SCALE, gathered, rank_among, ranks, said_of, whole_row
 from ownmarks.swings import kept_marks, marks_for_score, parts_of_score, possible_scores
 
 
@@ -19,14 +19,32 @@ def mark_more(rule, page, pair):
     return (ranks(rule, page)[pair[1]], ranks(rule, page.with_mark(pair, mark + 1))[pair[1]])
 
 
+def members_moved(rule, pair):
+    """The members of the list of the one marked whose scores hang on the mark of the pair."""
+    marker, marked = pair
+    told = [member for member in rule.list_of(marked) if marker in rule.readers(member)]
+    # A row that is turned says something else of each of its people if one mark changes.
+    return [member for member in told if member == marked] if rule.turn == "plain" else told
+
+
 def against_missing(rule, page, pair):
     """A dict from all marks to the rank of the one marked with this mark, less its rank with the mark missing."""
     need_rule(rule)
     need_page(page, rule.crowd)
     need_pair(rule.crowd, pair)
-    missing = ranks(rule, page.with_mark(pair, None))[pair[1]]
-    marks = range(rule.crowd.most + 1)
-    return {mark: ranks(rule, page.with_mark(pair, mark))[pair[1]] - missing for mark in marks}
+    marker, marked = pair
+    members, moved = rule.list_of(marked), members_moved(rule, pair)
+    rows = {person: whole_row(rule.turn, page.row(person)) for person in rule.crowd.people}
+    found = {member: gathered(rule, said_of(rule, rows, member)) for member in members if member not in moved}
+    others = {**rows, marker: {}}
+    said = {member: said_of(rule, others, member) for member in moved}
+    own, told = page.row(marker), []
+    for mark in [None, *range(rule.crowd.most + 1)]:
+        row = whole_row(rule.turn, {**own, marked: mark})
+        for member in moved:
+            found[member] = gathered(rule, [*said[member], row[member]] if member in row else said[member])
+        told.append(rank_among(members, found, marked))
+    return {mark: rank - told[0] for mark, rank in enumerate(told[1:])}
 
 
 def need_unread_pair(rule, pair):
@@ -68,7 +86,7 @@ def harm_found(rule, pair, mark):
         # Of all marks with this score, those by which the mark that is read, too, makes it as low as can be: the
         # marks left out below are 0, those above are the greatest ones, and two in the middle are far apart.
         marks = marks_for_score(rule, marked, score)
-        low = gathered(more, [(one, 1) for one in [*marks, mark]])
+        low = lowest_terms(gathered(more, [*marks, mark]), SCALE)
         if is_less(low, score):
             for rival in rivals:
                 worth = score_between(rule, rival, marked, score, low)

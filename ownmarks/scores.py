@@ -1,10 +1,12 @@
 """Turned rows, and the scores, ranks and winners that a rule makes of a page."""
 
-from math import lcm
-
-from ownmarks.basics import NOUGHT, is_less, lowest_terms
+from ownmarks.basics import lowest_terms
 from ownmarks.pages import need_page
 from ownmarks.rules import need_rule
+
+# A row has at most seven marks, and somebody at most seven readers: multiplied by this, what a turned row says is an
+# integer, and so is what is gathered from integers.
+SCALE = 420
 
 
 def turned_tops(turn, given):
@@ -18,19 +20,24 @@ def turned_tops(turn, given):
     return (list(given), 1)
 
 
+def whole_row(turn, row):
+    """What a turned row, a dict from the others to marks or None, says of those who get a mark, times SCALE."""
+    given = {other: mark for other, mark in row.items() if mark is not None}
+    tops, bottom = turned_tops(turn, list(given.values()))
+    return {other: top * SCALE // bottom for other, top in zip(given, tops)}
+
+
 def turned_row(rule, page, person):
     """A dict from the others to what somebody's turned row says of them, None where a mark is missing."""
     need_rule(rule)
     need_page(page, rule.crowd)
     row = page.row(person)
-    given = {other: mark for other, mark in row.items() if mark is not None}
-    tops, bottom = turned_tops(rule.turn, list(given.values()))
-    turned = {other: lowest_terms(top, bottom) for other, top in zip(given, tops)}
-    return {other: turned.get(other, None) for other in row}
+    said = whole_row(rule.turn, row)
+    return {other: lowest_terms(said[other], SCALE) if other in said else None for other in row}
 
 
 def kept(gather, trim, many):
-    """Which of so many fractions, from the least to the greatest, make the score: (start, stop)."""
+    """Which of so many numbers, from the least to the greatest, make the score: (start, stop)."""
     if gather == "median":
         return ((many - 1) // 2, many // 2 + 1)
     if gather == "trim" and many > 2 * trim:
@@ -43,54 +50,56 @@ def kept(gather, trim, many):
 
 
 def gathered(rule, said):
-    """The score that the rule gathers from these fractions."""
+    """What the rule gathers from a list of integers, times SCALE."""
     if len(said) == 0:
-        return NOUGHT
-    common = 1
-    for _, bottom in said:
-        common = lcm(common, bottom)
-    tops = sorted([top * (common // bottom) for top, bottom in said])
-    start, stop = kept(rule.gather, rule.trim, len(tops))
+        return 0
+    start, stop = kept(rule.gather, rule.trim, len(said))
     parts = 1 if rule.gather == "sum" else stop - start
-    return lowest_terms(sum(tops[start:stop]), common * parts)
+    return sum(sorted(said)[start:stop]) * SCALE // parts
 
 
-def score_of(rule, rows, person):
-    """Somebody's score, by a dict of the turned rows of its readers."""
-    readers = rule.readers(person)
-    if len(readers) == 0:
+def said_of(rule, rows, person):
+    """The list of what the rows of somebody's readers, dicts as of whole_row, say of it."""
+    return [rows[reader][person] for reader in rule.readers(person) if person in rows[reader]]
+
+
+def score_by(rule, rows, person):
+    """Somebody's score, or None without readers, by a dict of the rows of its readers."""
+    if len(rule.readers(person)) == 0:
         return None
-    said = [rows[reader][person] for reader in readers]
-    return gathered(rule, [fraction for fraction in said if fraction is not None])
+    return lowest_terms(gathered(rule, said_of(rule, rows, person)), SCALE * SCALE)
 
 
 def score(rule, page, person):
     """Somebody's score, or None without readers."""
     need_rule(rule)
     need_page(page, rule.crowd)
-    rows = {reader: turned_row(rule, page, reader) for reader in rule.readers(person)}
-    return score_of(rule, rows, person)
+    rows = {reader: whole_row(rule.turn, page.row(reader)) for reader in rule.readers(person)}
+    return score_by(rule, rows, person)
 
 
 def scores(rule, page):
     """A dict from all people to their scores."""
     need_rule(rule)
     need_page(page, rule.crowd)
-    rows = {person: turned_row(rule, page, person) for person in rule.crowd.people}
-    return {person: score_of(rule, rows, person) for person in rule.crowd.people}
+    rows = {person: whole_row(rule.turn, page.row(person)) for person in rule.crowd.people}
+    return {person: score_by(rule, rows, person) for person in rule.crowd.people}
 
 
 def rank_among(members, found, person):
-    """Somebody's rank in its list, by a dict of the scores found."""
-    place = members.index(person)
-    earlier_ahead = [one for one in members[:place] if not is_less(found[one], found[person])]
-    later_ahead = [one for one in members[place + 1:] if is_less(found[person], found[one])]
+    """Somebody's rank in its list, by a dict of scores that are all multiplied by the same."""
+    place, own = members.index(person), found[person]
+    earlier_ahead = [one for one in members[:place] if found[one] >= own]
+    later_ahead = [one for one in members[place + 1:] if found[one] > own]
     return 1 + len(earlier_ahead) + len(later_ahead)
 
 
 def ranks(rule, page):
     """A dict from all people to their ranks."""
-    found = scores(rule, page)
+    need_rule(rule)
+    need_page(page, rule.crowd)
+    rows = {person: whole_row(rule.turn, page.row(person)) for person in rule.crowd.people}
+    found = {person: gathered(rule, said_of(rule, rows, person)) for person in rule.crowd.people}
     return {person: rank_among(rule.list_of(person), found, person) for person in rule.crowd.people}
 
 

@@ -10,8 +10,8 @@ from ownmarks.errors import BadArgument, BadMark, BadPair, BadRule
 from ownmarks.more import against_missing, harms, is_harm, least_harmless, mark_more, with_read
 from ownmarks.pages import Page
 from ownmarks.rules import Rule
-from tests.helping import (GATHERED, ODD, TURNS, Alike, RefusingCase, all_marks, all_pages, crowd_of, multisets, odd_without, plain_gathered,
-                           plain_ranks, plain_values, some_lists, some_page, some_rule)
+from tests.helping import (GATHERED, ODD, TURNS, Alike, RefusingCase, all_marks, all_pages, calls_in, crowd_of, multisets, odd_without,
+                           plain_gathered, plain_ranks, plain_values, some_lists, some_page, some_rule)
 
 NO_PAIRS = odd_without() + [("a", "d"), ("a", "a"), ("a", "b", "c"), ["a", "b"], "ab", ("a",), (Alike(), "b"), ("a", Alike())]
 
@@ -254,6 +254,61 @@ class AgainstMissingTest(unittest.TestCase):
                 self.assertEqual(list(told), list(all_marks(rule.crowd)))
                 for mark in all_marks(rule.crowd):
                     self.assertEqual(told[mark], plain_ranks(rule, page.with_mark(pair, mark))[pair[1]] - missing)
+
+    def check(self, rule, page, pair):
+        missing = plain_ranks(rule, page.with_mark(pair, None))[pair[1]]
+        told = [(mark, plain_ranks(rule, page.with_mark(pair, mark))[pair[1]] - missing) for mark in all_marks(rule.crowd)]
+        self.assertEqual(list(against_missing(rule, page, pair).items()), told)
+        return {places for _, places in told}
+
+    def test_many_pairs_of_one_page(self):
+        crowd = Crowd(["ann", "bo", "cy", "di", "ed"], 3)
+        page = Page(crowd, {pair: at % 4 for at, pair in enumerate(crowd.pairs())})
+        for gather, last in [("mean", -1), ("sum", -1), ("median", 0)]:
+            rule = Rule(crowd, reads=crowd.pairs(), gather=gather)
+            self.assertEqual(against_missing(rule, page, ("ann", "bo")), {0: 0, 1: 0, 2: 0, 3: last})
+            for pair in crowd.pairs():
+                self.check(rule, page, pair)
+
+    def test_great_crowds(self):
+        chance = random.Random(210)
+        found = set()
+        for turn in TURNS:
+            for gather, trim in GATHERED if turn == "plain" else [("sum", 0), ("mean", 0)]:
+                for missing in (0, 2, 5):
+                    rule = some_rule(crowd_of(8 if trim == 3 else chance.randint(6, 8), 10), chance, turn, [(gather, trim)])
+                    page = some_page(rule.crowd, chance, missing)
+                    for pair in chance.sample(rule.crowd.pairs(), 3):
+                        found |= self.check(rule, page, pair)
+        self.assertTrue({-1, 0, 1} < found)
+
+    def test_rows_that_say_nothing_else(self):
+        # The only mark of a row is missing; nobody says anything; the pair is not read, but its row is turned whole.
+        for turn in TURNS:
+            rule = Rule(crowd_of(3, 2), turn=turn, lists=[["a", "b"], ["c"]], reads=[("c", "a"), ("b", "a"), ("a", "b")])
+            nothing = Page.filled(rule.crowd, None)
+            for page in (nothing, nothing.with_mark(("c", "a"), 1), nothing.with_mark(("c", "b"), 2), Page.filled(rule.crowd, 1)):
+                for pair in rule.crowd.pairs():
+                    self.check(rule, page, pair)
+        rule = Rule(crowd_of(3, 2), turn="placed", lists=[["a", "b"], ["c"]], reads=[("c", "a"), ("b", "a"), ("a", "b")])
+        self.assertEqual(against_missing(rule, Page.filled(rule.crowd, 1), ("c", "b")), {0: 0, 1: 0, 2: 0})
+        self.assertEqual(against_missing(rule, Page.filled(rule.crowd, 1).with_mark(("b", "a"), None), ("c", "b")), {0: 1, 1: 1, 2: 0})
+
+    def test_few_steps(self):
+        # With a page made anew for each mark it was 650, 36000 and 520000.
+        for people, most, limit in [(2, 1, 250), (5, 3, 6000), (8, 10, 40000)]:
+            for turn in TURNS:
+                rule = Rule(crowd_of(people, most), turn=turn, gather="mean")
+                page = Page(rule.crowd, {pair: at % (most + 1) for at, pair in enumerate(rule.crowd.pairs())})
+                self.assertLess(sum(calls_in(against_missing, rule, page, pair) for pair in rule.crowd.pairs()), limit, (people, turn))
+
+    def test_nothing_is_kept(self):
+        rule = Rule(crowd_of(4, 3), turn="centred", gather="mean")
+        page = Page.filled(rule.crowd, 1)
+        before = [repr(vars(one)) for one in (rule, page, rule.crowd)]
+        steps = [calls_in(against_missing, rule, page, ("a", "b")) for _ in range(3)]
+        self.assertEqual(steps, steps[:1] * 3)
+        self.assertEqual([repr(vars(one)) for one in (rule, page, rule.crowd)], before)
 
     def test_missing_as_if_not_read(self):
         chance = random.Random(201)
