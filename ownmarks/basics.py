@@ -93,3 +93,9 @@ def all_tuples(most, many):
     for _ in range(many):
         told = [row + (number,) for row in told for number in range(most + 1)]
     return told
+
+
+def item_in_turn(told, start, number):
+    """The item with a number, from 1 on, of a list whose items come again and again from the start on."""
+    index = number - 1
+    return told[index] if index < len(told) else told[start + (index - start) % (len(told) - start)]

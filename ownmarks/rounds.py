@@ -1,19 +1,18 @@
 """Rounds that go on: each row counts as often as a weight tells, by the rank of its marker in the round before."""
 
-from ownmarks.basics import all_tuples, is_integer_within, need_number
+from ownmarks.atonce import AllPages
+from ownmarks.basics import all_tuples, is_integer_within, item_in_turn, need_number
 from ownmarks.crowds import need_person
 from ownmarks.errors import BadArgument
 from ownmarks.pages import need_few_pages, need_page, need_pair, page_of_marks
-from ownmarks.rules import need_rule
-from ownmarks.scores import turned_tops
+from ownmarks.rules import need_rule, places_by_list
+from ownmarks.scores import whole_row
 from ownmarks.web import rank_reads
 
 MANY_WEIGHTS = 8
 GREATEST_WEIGHT = 9
 MOST_ROUNDS_TOLD = 1000000
 MOST_ROUNDS_TRIED = 100
-# A row has at most seven marks: what they turn to are integers if multiplied by this.
-SCALE = 420
 
 
 def need_sum_rule(rule):
@@ -32,15 +31,8 @@ def are_weights(value):
 
 def said_by(rule, marker, row):
     """What a turned row, a dict from the others to marks or None, says of all people by read pairs, times SCALE."""
-    given = {other: mark for other, mark in row.items() if mark is not None}
-    tops, bottom = turned_tops(rule.turn, list(given.values()))
-    said = {other: top * SCALE // bottom for other, top in zip(given, tops)}
+    said = whole_row(rule.turn, row)
     return [said.get(person, 0) if (marker, person) in rule else 0 for person in rule.crowd.people]
-
-
-def places_by_list(rule):
-    """The lists of two people or more, as lists of the places of their people."""
-    return [[rule.crowd.place(member) for member in members] for members in rule.lists if len(members) > 1]
 
 
 def round_behind(lists, columns, often):
@@ -63,12 +55,6 @@ def course(lists, columns, weights):
     return (list(found), found[ranks])
 
 
-def ranks_of_round(told, start, number):
-    """The ranks of a round, counted from 1 on, by a course."""
-    index = number - 1
-    return told[index] if index < len(told) else told[start + (index - start) % (len(told) - start)]
-
-
 def said_by_rows(rule):
     """For each person, in order, a dict from the marks of all its rows to what these say of all people."""
     told = []
@@ -77,6 +63,42 @@ def said_by_rows(rule):
         rows = all_tuples(rule.crowd.most, len(others))
         told.append({row: said_by(rule, marker, {other: mark for other, mark in zip(others, row)}) for row in rows})
     return told
+
+
+def is_ahead_of_other(mark, against, edge, weights, number):
+    """Whether, of two people, who gets this mark is ahead in a later round of who gets the other one; edge if equal."""
+    ahead = mark + edge > against
+    # Two people can have two rows of ranks alone: from round 2 on they have the same ones in each second round.
+    for _ in range(1 + number % 2):
+        # The mark comes from the other one, who counts by the first weight if it is ahead.
+        times, against_times = (weights[1], weights[0]) if ahead else (weights[0], weights[1])
+        ahead = mark * times + edge > against * against_times
+    return ahead
+
+
+def harm_of_two(rule, weights, pair, number):
+    """What harming_marks tells for two people in one list, page by page, which is quicker for so few."""
+    if rule.turn != "plain":
+        # A row of one mark says nought of anybody if it is turned.
+        return None
+    most = rule.crowd.most
+    # The second pair marks the earlier one, who has the edge.
+    at = rule.crowd.pairs().index(pair)
+    for marks in all_tuples(most, 2):
+        mark, against = marks[at], marks[1 - at]
+        if mark < most and is_ahead_of_other(mark, against, at, weights, number):
+            if not is_ahead_of_other(mark + 1, against, at, weights, number):
+                return marks
+    return None
+
+
+def harming_marks(rule, weights, pair, number):
+    """The marks of the first page on which one mark more of the pair makes a rank worse in a later round, or None."""
+    if len(rule.list_of(pair[1])) == 1:
+        return None
+    if len(rule.crowd) == 2:
+        return harm_of_two(rule, weights, pair, number)
+    return AllPages(rule, weights).harming_marks(pair, number)
 
 
 class Rounds:
@@ -115,7 +137,7 @@ class Rounds:
         need_page(page, self._rule.crowd)
         need_number(number, 1, MOST_ROUNDS_TOLD)
         told, start = self._course(page)
-        return self._named(ranks_of_round(told, start, number))
+        return self._named(item_in_turn(told, start, number))
 
     def rests(self, page):
         """Whether one round alone comes again and again."""
@@ -161,7 +183,7 @@ class Rounds:
         for marks in all_tuples(crowd.most, len(crowd.pairs())):
             said = [row[marks[start:stop]] for row, start, stop in spans]
             told, again = course(lists, list(zip(*said)), self._weights)
-            found.append((marks, ranks_of_round(told, again, number)[place]))
+            found.append((marks, item_in_turn(told, again, number)[place]))
         return found
 
     def _widest(self, person, number):
@@ -200,10 +222,8 @@ class Rounds:
         if number == 1:
             return None
         need_few_pages(crowd)
-        told = {marks: rank for marks, rank in self._told_ranks(pair[1], number)}
-        at = crowd.pairs().index(pair)
-        for marks, rank in told.items():
-            more = marks[:at] + (marks[at] + 1,) + marks[at + 1:]
-            if marks[at] < crowd.most and told[more] > rank:
-                return (page_of_marks(crowd, marks), page_of_marks(crowd, more))
-        return None
+        found = harming_marks(self._rule, self._weights, pair, number)
+        if found is None:
+            return None
+        page = page_of_marks(crowd, found)
+        return (page, page.with_mark(pair, page[pair] + 1))

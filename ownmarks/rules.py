@@ -164,3 +164,8 @@ def need_plain_rule(rule):
     need_rule(rule)
     if rule.turn != "plain":
         raise BadArgument(rule)
+
+
+def places_by_list(rule):
+    """The lists of two people or more, as lists of the places of their people."""
+    return [[rule.crowd.place(member) for member in members] for members in rule.lists if len(members) > 1]

@@ -20,7 +20,7 @@ DOUBLE = set("""__init__ __eq__ __len__ __call__ __iter__ __contains__ __getitem
 STILL = set("__eq__ __len__ __iter__ __contains__ __getitem__ __or__ __and__".split())
 NODES = set("""Module Expr Constant ImportFrom alias FunctionDef ClassDef arguments arg Return Assign Name Load Store Call
     keyword Attribute Subscript Slice Tuple List Dict If IfExp For While Raise BoolOp And Or UnaryOp Not USub BinOp Add
-    Sub Mult FloorDiv Mod BitOr BitAnd LShift Compare Eq NotEq Lt LtE Gt GtE In NotIn Is IsNot ListComp DictComp SetComp
+    Sub Mult FloorDiv Mod BitOr BitAnd BitXor LShift RShift Compare Eq NotEq Lt LtE Gt GtE In NotIn Is IsNot ListComp DictComp SetComp
     comprehension Yield Pass Break Continue AugAssign Starred Try ExceptHandler JoinedStr FormattedValue""".split())
 BARRED = set("""register mro elements open input law typing enum Enum IntEnum StrEnum Flag IntFlag Generic Protocol ABC ABCMeta
     NamedTuple namedtuple TypedDict dataclass overload contextmanager abstractmethod type version_info with_traceback add_note

@@ -10,7 +10,8 @@ from ownmarks.errors import BadArgument, BadNumber, BadPair, NotThere, TooMany
 from ownmarks.pages import Page
 from ownmarks.rounds import Rounds
 from ownmarks.rules import Rule
-from tests.helping import (ODD, TURNS, Alike, RefusingCase, all_pages, crowd_of, odd_without, plain_ranks, plain_turned, some_page, some_rule)
+from tests.helping import (ODD, TURNS, Alike, RefusingCase, all_pages, calls_in, crowd_of, odd_without, plain_ranks, plain_turned, some_page,
+                           some_rule)
 
 FALLING = [3, 2, 1, 0, 0, 0, 0, 0]
 EVEN = [1] * 8
@@ -344,6 +345,71 @@ class LiftTest(RefusingCase):
             rounds.lift("a", 2)
         even = Rounds(Rule(crowd_of(8, 10), lists=lists, reads=reads), EVEN)
         self.assertEqual((even.lift("h", 100), even.lift_pages("h", 100)), (0, None))
+
+
+class MarkHarmTest(unittest.TestCase):
+    def check(self, rule, weights, numbers):
+        """For each number and pair whether a mark more harms, by the ranks of all full pages, and the pages that are told."""
+        rounds = Rounds(rule, weights)
+        pages = all_pages(rule.crowd)
+        pairs = rule.crowd.pairs()
+        harmed = []
+        for number in numbers:
+            found = {tuple(page.marks.values()): rounds.ranks_in(page, number) for page in pages}
+            for at, pair in enumerate(pairs):
+                ahead = [(marks, marks[:at] + (marks[at] + 1,) + marks[at + 1:]) for marks in found if marks[at] < rule.crowd.most]
+                harming = [(marks, more) for marks, more in ahead if found[more][pair[1]] > found[marks][pair[1]]]
+                told = rounds.mark_harm(pair, number)
+                self.assertEqual(told is not None, bool(harming), (rule.reads, rule.lists, rule.turn, weights, pair, number))
+                if told is not None:
+                    self.assertEqual([one.crowd for one in told], [rule.crowd] * 2)
+                    # Of all that are correct, those with the least marks are told, again and again.
+                    self.assertEqual(tuple(tuple(one.marks.values()) for one in told), min(harming))
+                    self.assertEqual(rounds.mark_harm(pair, number), told)
+                    harmed.append((pair, number))
+        return harmed
+
+    def test_two_people(self):
+        harmed = []
+        for most in (1, 2, 3, 10):
+            for weights in ([9] + [0] * 7, [0, 9] + [0] * 6, [3, 2] + [9] * 6, [1, 2] + [0] * 6, [7, 7] + [0] * 6, [0] * 8):
+                harmed += self.check(Rule(crowd_of(2, most)), weights, (2, 3, 4, 5, 99, 100) if most < 10 else (2, 3))
+        self.assertLessEqual({2, 4, 100}, {number for _, number in harmed})
+        for turn in ("centred", "placed"):
+            self.assertEqual(self.check(Rule(crowd_of(2, 3), turn=turn), [9] + [0] * 7, (2, 3, 100)), [])
+        self.assertEqual(self.check(Rule(crowd_of(2, 3), lists=[["a"], ["b"]]), [9] + [0] * 7, (2, 100)), [])
+
+    def test_three_people(self):
+        harmed = {}
+        for at, (rule, weights) in enumerate(some_rounds(90, 231, [3], [1, 1, 2])):
+            found = self.check(rule, weights, (2, 3, 4, 7, 100) if rule.crowd.most == 1 else (2 + at % 3,))
+            harmed[rule.turn] = harmed.get(rule.turn, 0) + len(found)
+        self.assertTrue(all(harmed[turn] > 3 for turn in TURNS), harmed)
+
+    def test_as_many_pages_as_may_be(self):
+        for at, (rule, weights) in enumerate(itertools.chain(some_rounds(6, 232, [4], [1]), some_rounds(3, 233, [3], [3]))):
+            self.check(rule, weights, (2, 3) if at % 2 else (3 + at,))
+
+    def test_all_weights_of_four_people(self):
+        # Two lists of two, each marked by the other one alone; and four in one list, with weights of all figures.
+        across = [(one, other) for one in "abcd" for other in "abcd" if (one in "ab") != (other in "ab")]
+        self.check(Rule(crowd_of(4, 1), lists=[["a", "b"], ["c", "d"]], reads=across), [0, 9, 4, 2, 0, 0, 0, 0], (2, 6))
+        self.check(Rule(crowd_of(4, 1), turn="centred"), [9, 8, 0, 7, 1, 1, 1, 1], (3,))
+
+    def test_few_steps(self):
+        # Page by page it was 20000 for three people with the greatest mark 1, 1100000 with the greatest mark 3.
+        for people, most, limit in [(2, 1, 150), (3, 1, 5000), (3, 3, 8000)]:
+            for turn in TURNS:
+                rounds = Rounds(Rule(crowd_of(people, most), turn=turn), [3, 2, 1, 1, 0, 0, 0, 0])
+                steps = [calls_in(rounds.mark_harm, pair, number) for pair in rounds.rule.crowd.pairs() for number in (2, 3)]
+                self.assertLess(sum(steps), limit, (people, most, turn))
+
+    def test_nothing_is_kept(self):
+        rounds = Rounds(Rule(crowd_of(3, 2)), [3, 2, 1, 1, 0, 0, 0, 0])
+        before = [repr(vars(one)) for one in (rounds, rounds.rule, rounds.rule.crowd)]
+        steps = [calls_in(rounds.mark_harm, ("a", "b"), number) for number in (2, 2, 3, 3)]
+        self.assertEqual([steps[0], steps[2]], [steps[1], steps[3]])
+        self.assertEqual([repr(vars(one)) for one in (rounds, rounds.rule, rounds.rule.crowd)], before)
 
 
 class WrongArgumentsTest(RefusingCase):
