@@ -1,8 +1,8 @@
 """Rounds with weights, on all full pages of a crowd at once.
 
 A mask is an integer with one bit for each full page, from the lowest one on in the ascending order of the tuples of
-their marks. A number that each page has is told by its figures: the masks of the pages on which its binary figures are
-1, the lowest figure first.
+their marks. A number that each page has is told by its binary figures, the lowest one first: the masks of the pages on
+which they are 1. Levels are the masks of the pages on which none or more are ahead of somebody, one or more, and so on.
 """
 
 from ownmarks.basics import all_tuples, item_in_turn, power
@@ -31,13 +31,8 @@ def marks_of_page(crowd, number):
     return told
 
 
-def figures_by(masks, numbers, many):
-    """So many figures of the number that is, on the pages of each mask, the one beside it."""
-    return [sum([mask for mask, number in zip(masks, numbers) if number >> at & 1]) for at in range(many)]
-
-
 def folded(masks):
-    """The sum of masks as a tuple: its lowest figure, and the masks that count twice as much."""
+    """What masks make together, as a tuple: the lowest figure, and masks that count twice as much."""
     figure, carried = 0, []
     for mask in masks:
         if figure & mask:
@@ -47,16 +42,15 @@ def folded(masks):
 
 
 def total_of(said, often, many):
-    """So many figures of the total of what is said, tuples (marker, figures), as often as told for the marker."""
+    """So many figures of the total of what is said, tuples (marker, figure, mask), as often as told for each marker."""
     columns = [[] for _ in range(many)]
-    for marker, figures in said:
-        for low, figure in enumerate(figures):
-            for high, times in enumerate(often[marker]):
-                columns[low + high].append(figure & times)
+    for marker, figure, mask in said:
+        for at, times in enumerate(often[marker]):
+            columns[figure + at].append(mask & times)
     told, carried = [], []
     for column in columns:
-        figure, carried = folded([*column, *carried])
-        told.append(figure)
+        lowest, carried = folded([*column, *carried])
+        told.append(lowest)
     return told
 
 
@@ -67,23 +61,24 @@ def pages_ahead(one, other, ahead):
     return ahead
 
 
-def rivals_ahead(totals, every):
-    """For each of some totals the masks of the pages on which others are ahead: greater, or equal and earlier."""
-    spots = range(len(totals))
-    told = {(one, at): pages_ahead(totals[one], totals[at], every) for at in spots for one in range(at)}
-    return [[told[one, at] if one < at else every ^ told[at, one] for one in spots if one != at] for at in spots]
+def with_one_more(levels, mask):
+    """The levels behind one more rival, who is ahead on the pages of a mask."""
+    return [levels[0], *[level | less & mask for level, less in zip([*levels[1:], 0], levels)]]
 
 
-def levels_of(masks, every):
-    """For each number from 0 on, the mask of the pages that so many of some masks have, or more."""
-    told = [every]
-    for mask in masks:
-        told = [level | less & mask for level, less in zip([*told, 0], [every, *told])]
+def levels_by(totals, every):
+    """The levels of people with some totals, in order: who has more is ahead, and who has as much and is earlier."""
+    told = [[every] for _ in totals]
+    for at, total in enumerate(totals):
+        for one in range(at):
+            ahead = pages_ahead(totals[one], total, every)
+            told[at] = with_one_more(told[at], ahead)
+            told[one] = with_one_more(told[one], every ^ ahead)
     return told
 
 
 def growths_of(weights):
-    """For each binary figure, by how much it grows from each of some weights to the next one, from nought on."""
+    """For each binary figure by how much it grows from each of some weights to the next one, from nought on."""
     both, many = list(zip([0, *weights], weights)), max(weights).bit_length()
     return [[(weight >> at & 1) - (ahead >> at & 1) for ahead, weight in both] for at in range(many)]
 
@@ -97,15 +92,9 @@ def rows_from_nought(rule):
     return ([[top - least for top in row] for row in rows], -least)
 
 
-def numbers_said(rule, place, rows, unread):
-    """For each marker, in order, what its rows say of the one at a place."""
-    people = rule.crowd.people
-    readers = rule.readers(people[place])
-    told = []
-    for marker, person in enumerate(people):
-        spot = place if place < marker else place - 1
-        told.append([row[spot] if person in readers else unread for row in rows])
-    return told
+def rows_by_figure(rows, spot, many):
+    """For each of so many figures of what rows say at a spot, those that have it."""
+    return [[at for at, row in enumerate(rows) if row[spot] >> figure & 1] for figure in range(many)]
 
 
 class AllPages:
@@ -122,32 +111,45 @@ class AllPages:
         greatest = max([max(row) for row in rows])
         self._total_figures = (max([1, *counted]) * greatest * many).bit_length()
         masks = masks_of_rows(many, len(rows), self._every)
-        self._said = {}
-        for place in sorted([one for places in self._lists for one in places]):
-            said = [(at, told) for at, told in enumerate(numbers_said(rule, place, rows, unread)) if max(told) > 0]
-            self._said[place] = [(at, figures_by(masks[at], told, greatest.bit_length())) for at, told in said]
+        spots = [rows_by_figure(rows, spot, greatest.bit_length()) for spot in range(many - 1)]
+        ranked = [place for places in self._lists for place in places]
+        self._said = {place: self._said_of(rule, place, masks, spots, unread) for place in ranked}
+
+    def _said_of(self, rule, place, masks, spots, unread):
+        """The list of the tuples (marker, figure, mask) of what is said of the one at a place."""
+        people = rule.crowd.people
+        readers = rule.readers(people[place])
+        told = []
+        for marker, by_row in enumerate(masks):
+            if people[marker] in readers:
+                found = spots[place if place < marker else place - 1]
+                told += [(marker, at, sum([by_row[row] for row in having])) for at, having in enumerate(found)]
+            else:
+                told += [(marker, at, self._every) for at in range(unread.bit_length()) if unread >> at & 1]
+        return told
 
     def _levels(self, often):
-        """By places in lists of two or more: for each number from 0 on, where so many are ahead, or more."""
+        """A dict from the places in lists of two or more to levels, in a round in which rows count so often."""
         told = {}
         for places in self._lists:
             totals = [total_of(self._said[place], often, self._total_figures) for place in places]
-            for place, masks in zip(places, rivals_ahead(totals, self._every)):
-                told[place] = levels_of(masks, self._every)
+            for place, levels in zip(places, levels_by(totals, self._every)):
+                told[place] = levels
         return told
 
     def _often_behind(self, often):
-        """The figures of how often each row counts in the round behind one in which rows count so often."""
+        """How often rows count, by figures, in the round behind one in which they count so often."""
         found = self._levels(often)
         told = []
         for place in range(len(self._crowd)):
-            # Nobody is ahead of who is alone.
+            # Nobody is ahead of who is alone in a list.
             levels = found.get(place, [self._every])
+            # Each level lies within the one before, so that a weight is what all that are reached grow together.
             told.append([sum([growth * level for growth, level in zip(row, levels)]) for row in self._growths])
         return told
 
     def _levels_in(self, number):
-        """What _levels tells of a round."""
+        """The levels in a round."""
         told = [[[self._every]] * len(self._crowd)]
         while len(told) < number:
             after = self._often_behind(told[-1])

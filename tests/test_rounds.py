@@ -398,11 +398,13 @@ class MarkHarmTest(unittest.TestCase):
 
     def test_few_steps(self):
         # Page by page it was 20000 for three people with the greatest mark 1, 1100000 with the greatest mark 3.
-        for people, most, limit in [(2, 1, 150), (3, 1, 5000), (3, 3, 8000)]:
+        for people, most, limit, limit_of_late in [(2, 1, 150, 40), (3, 1, 5000, 1500), (3, 3, 8000, 4500)]:
             for turn in TURNS:
                 rounds = Rounds(Rule(crowd_of(people, most), turn=turn), [3, 2, 1, 1, 0, 0, 0, 0])
                 steps = [calls_in(rounds.mark_harm, pair, number) for pair in rounds.rule.crowd.pairs() for number in (2, 3)]
                 self.assertLess(sum(steps), limit, (people, most, turn))
+                # The rounds that come again are not gone through again.
+                self.assertLess(calls_in(rounds.mark_harm, ("a", "b"), 100), limit_of_late, (people, most, turn))
 
     def test_nothing_is_kept(self):
         rounds = Rounds(Rule(crowd_of(3, 2)), [3, 2, 1, 1, 0, 0, 0, 0])
